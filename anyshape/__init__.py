@@ -1,0 +1,1 @@
+"""Anyshape: array programs judged for all sizes at once."""
