@@ -34,7 +34,7 @@ def balanced(columns, goal):
             return None, without_divisor(shown[many:])
         pivot = table[row][column]
         table = _exchanged(table, row, column, scale)
-        scale = abs(pivot)
+        scale = -pivot
         fallen = told[row]
         told[row] = zero[column]
         zero[column] = fallen
@@ -53,19 +53,21 @@ def _first_raising(row, zero):
 
 
 def _exchanged(table, row, column, scale):
-    """The table in which the unknowns of a row and a column have changed places."""
+    """The table in which the unknowns of a row and a column have changed places.
+
+    The entry in this row and column is below 0; its opposite is the new scale.
+    """
     head = table[row]
-    pivot = head[column]
-    sign = 1 if pivot > 0 else -1
     after = []
     for at, line in enumerate(table):
-        factor = line[column]
         if at == row:
-            left = [sign * entry for entry in head]
-            left[column] = sign * scale
+            left = [-entry for entry in head]
+            left[column] = -scale
         else:
-            left = [sign * (pivot * one - factor * two) // scale for one, two in zip(line, head)]
-            left[column] = -sign * factor
+            factor = line[column]
+            # Nothing is lost by this division: all entries are determinants of the first table.
+            left = [(factor * two - head[column] * one) // scale for one, two in zip(line, head)]
+            left[column] = factor
         after.append(left)
     return after
 

@@ -1,8 +1,11 @@
-"""The examples of the document, as they stand there."""
+"""The examples of the document, as they stand there, and those of README.md."""
 
 import doctest
+import pathlib
+import re
 import unittest
 
+README = pathlib.Path(__file__).resolve().parent.parent / "README.md"
 STAGE_1 = """
 >>> from anyshape.numbers import numbers_of
 >>> from anyshape.sizes import Size
@@ -44,6 +47,10 @@ class TestExamples(unittest.TestCase):
 
     def test_stage_2(self):
         self.check(STAGE_2)
+
+    def test_readme(self):
+        blocks = re.findall("```\n(>>> .*?)```", README.read_text(encoding="utf-8"), re.DOTALL)
+        self.check("\n".join(blocks))
 
 
 if __name__ == "__main__":

@@ -152,6 +152,11 @@ class TestWhys(unittest.TestCase):
             self.assertIs(is_why(FACTS, Both(goal), (value,)), False, value)
             self.assertIs(is_why(FACTS, Either(goal), (0, value)), False, value)
 
+    def test_a_scale_of_0_shows_nothing(self):
+        for given, weights in (([], ()), (FACTS, (0, 0))):
+            for goal in facts("n | m", "m | n", "n | n", "1 | 1"):
+                self.assertIs(is_why(given, goal, (0, weights, {})), False)
+
     def test_weights_below_0_only_for_what_equals(self):
         given = facts("a | b", "a = b")
         self.assertIs(is_why(given, fact("b | a"), (1, (0, -1), {})), True)

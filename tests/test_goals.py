@@ -183,6 +183,11 @@ class TestHolding(unittest.TestCase):
                 with self.assertRaises(InvalidNumbers) as caught:
                     goal.holds_at(value)
                 self.assertIs(caught.exception.value, value)
+        for goal in (Both(), Either(), fact("1 | 1")):
+            for value in no_dicts() + [{"a": 0}, {"a": True}, {"A": 1}]:
+                with self.assertRaises(InvalidNumbers) as caught:
+                    goal.holds_at(value)
+                self.assertIs(caught.exception.value, value)
         with self.assertRaises(InvalidNumbers):
             fact("a*b | b*c").holds_at({"a": 1, "c": 1})
 

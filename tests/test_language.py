@@ -1,0 +1,91 @@
+"""The package keeps to its subset of Python, and has the methods where the document lists them."""
+
+import importlib
+import inspect
+import pathlib
+import tempfile
+import unittest
+
+import rules
+
+LISTED = {
+    "sizes": {"Size": "of read product is_whole top bottom names exponents exponent over power at at_point __mul__ __contains__"
+                      " __len__ __eq__ __str__ __repr__"},
+    "goals": {"Goal": "facts names depth holds_at holds_for",
+              "Both": "facts names depth holds_at holds_for goals __len__ __eq__ __str__ __repr__",
+              "Either": "facts names depth holds_at holds_for goals __len__ __eq__ __str__ __repr__"},
+    "facts": {"Fact": "facts names depth holds_at holds_for one other exponent kept_by",
+              "Divides": "facts names depth holds_at holds_for one other exponent kept_by __eq__ __str__ __repr__",
+              "Equals": "facts names depth holds_at holds_for one other exponent kept_by __eq__ __str__ __repr__"},
+    "cones": {"Cone": "facts names rays is_within __len__ __contains__ __and__ __eq__"},
+    "follow": {"Always": "divides equals is_one"},
+}
+PROPERTIES = "is_whole top bottom depth one other".split()
+FUNCTIONS = {
+    "numbers": {"is_name": "(value)", "is_numbers": "(value)", "is_point": "(value)", "primes": "(many)",
+                "numbers_of": "(points, *names)"},
+    "follow": {"follows": "(facts, goal)", "why": "(facts, goal)", "against": "(facts, goal, *, full=False)",
+               "is_why": "(facts, goal, value)", "is_against": "(facts, goal, value)"},
+    "more": {"ones": "(facts, *, names=())", "alike_names": "(facts, *, names=())", "lean": "(facts)"},
+    "sizes": {"Size": "(exponents=None)"}, "goals": {"Both": "(*goals)", "Either": "(*goals)"},
+    "facts": {"Divides": "(one, other)", "Equals": "(one, other)"}, "cones": {"Cone": "(facts, *, names=())"},
+}
+BAD = {
+    "x = any(y for y in [])\n": "GeneratorExp", "def f(n):\n    return 2 ** n\n": "exponent", "x = 1 / 2\n": "Div",
+    "def f(list):\n    return 1\n": "variable list", "def f():\n    y = zip([], [])\n": "zip is not",
+    "def f(xs):\n    return xs.sort()\n": "method sort", "X = '%'\n": "a string with", "def f():\n    raise ERROR\n": "error",
+    "def f():\n    try:\n        pass\n    except ValueError:\n        pass\n": "caught", "def f(x):\n    return {x}\n": "Set",
+    "def f(x: int):\n    return x\n": "annotation", "X = 1\nX = 2\n": "twice", "import os\n": "statement Import",
+    "def f():\n" + "    x = 1\n" * 40: "too long", "def f(x):\n    return print(x)\n": "builtin print", "x = [lambda: 1][0]()\n": "call",
+    "def f(x):\n    return x is 1.5\n": "is beside", "def f():\n    global x\n    x = 1\n": "statement Global",
+}
+
+
+class TestSubset(unittest.TestCase):
+
+    def test_each_file_keeps_to_the_rules(self):
+        for file in rules.files():
+            self.assertEqual(rules.faults(file), [])
+        self.assertEqual(rules.circles(), [])
+
+    def test_the_folder_has_nothing_else(self):
+        for path in rules.FOLDER.iterdir():
+            if path.name != "__pycache__":
+                self.assertRegex(path.name, r"^[a-z_][a-z0-9_]*\.py$")
+        self.assertTrue((rules.FOLDER / "__init__.py").is_file())
+
+    def test_what_is_bad_is_seen(self):
+        with tempfile.TemporaryDirectory() as folder:
+            path = pathlib.Path(folder) / "bad.py"
+            for text, fault in BAD.items():
+                path.write_text(text, encoding="utf-8")
+                try:
+                    found = rules.faults(rules.File(path))
+                except SyntaxError as error:
+                    found = [f"is beside {error}"]
+                self.assertTrue(any(fault in line for line in found), (text, found))
+
+
+class TestInterface(unittest.TestCase):
+
+    def test_methods_stand_in_their_own_classes(self):
+        for module, classes in LISTED.items():
+            for name, methods in classes.items():
+                made = getattr(importlib.import_module(f"anyshape.{module}"), name)
+                self.assertEqual(made.__module__, f"anyshape.{module}")
+                for method in methods.split():
+                    self.assertIn(method, vars(made), name)
+                    self.assertIs(isinstance(vars(made)[method], property), method in PROPERTIES)
+        for method in ("of", "read", "product"):
+            self.assertIsInstance(vars(importlib.import_module("anyshape.sizes").Size)[method], classmethod)
+
+    def test_functions_stand_in_their_own_files(self):
+        for module, functions in FUNCTIONS.items():
+            for name, parameters in functions.items():
+                made = getattr(importlib.import_module(f"anyshape.{module}"), name)
+                self.assertEqual((made.__module__, str(inspect.signature(made))), (f"anyshape.{module}", parameters))
+        self.assertTrue(inspect.isgeneratorfunction(importlib.import_module("anyshape.numbers").primes))
+
+
+if __name__ == "__main__":
+    unittest.main()
