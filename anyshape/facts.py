@@ -13,6 +13,9 @@ class Fact(Goal):
     Its row is kept as a Size, the second size over the first one. So what holds
     at a point depends on the exponent there, and what holds at numbers on the
     exponents of coprime bases in the same way.
+
+    Its properties have setters, which refuse, as other classes have attributes
+    of the same names that are assigned.
     """
 
     def __init__(self, one, other):
@@ -28,10 +31,18 @@ class Fact(Goal):
         """The first size."""
         return self._one
 
+    @one.setter
+    def one(self, value):
+        raise AttributeError("a fact does not change")
+
     @property
     def other(self):
         """The second size."""
         return self._other
+
+    @other.setter
+    def other(self, value):
+        raise AttributeError("a fact does not change")
 
     def exponent(self, name):
         """The integer of the row for a name."""
@@ -81,10 +92,18 @@ class Divides(Fact):
         """The first size."""
         return self._one
 
+    @one.setter
+    def one(self, value):
+        raise AttributeError("a fact does not change")
+
     @property
     def other(self):
         """The second size."""
         return self._other
+
+    @other.setter
+    def other(self, value):
+        raise AttributeError("a fact does not change")
 
     def exponent(self, name):
         """The integer of the row for a name."""
@@ -140,10 +159,18 @@ class Equals(Fact):
         """The first size."""
         return self._one
 
+    @one.setter
+    def one(self, value):
+        raise AttributeError("a fact does not change")
+
     @property
     def other(self):
         """The second size."""
         return self._other
+
+    @other.setter
+    def other(self, value):
+        raise AttributeError("a fact does not change")
 
     def exponent(self, name):
         """The integer of the row for a name."""

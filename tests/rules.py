@@ -6,6 +6,7 @@ need be where the package does without what they allow.
 
 import ast
 import builtins
+import functools
 import io
 import pathlib
 import re
@@ -16,7 +17,7 @@ FOLDER = pathlib.Path(__file__).resolve().parent.parent / "anyshape"
 BUILTINS = set("""len range enumerate zip min max sum abs sorted reversed int str bool bytes list tuple dict set isinstance
     ord repr any all divmod""".split())
 ERRORS = set("""Exception ValueError TypeError KeyError IndexError LookupError ZeroDivisionError ArithmeticError OverflowError
-    RuntimeError NotImplementedError""".split())
+    RuntimeError NotImplementedError AttributeError""".split())
 METHODS = set("""append clear copy count endswith extend find get index insert isalnum isalpha isdigit islower isspace isupper
     items join keys ljust lower lstrip partition pop remove replace reverse rfind rjust rpartition rsplit rstrip setdefault
     split splitlines startswith strip update upper values zfill bit_length title capitalize swapcase casefold expandtabs
@@ -55,6 +56,7 @@ class File:
         return [node.body[0].value for node in owners if ast.get_docstring(node) is not None]
 
 
+@functools.cache
 def files():
     """All files of the package."""
     return [File(path) for path in sorted(FOLDER.glob("*.py"))]
@@ -156,10 +158,11 @@ def definitions(file, node):
     above = file.above[node]
     for one in node.decorator_list:
         name = getattr(one, "id", None)
-        if not isinstance(above, ast.ClassDef) or name not in ("property", "classmethod", "staticmethod"):
+        is_plain_one = name in ("property", "classmethod", "staticmethod")
+        if not isinstance(above, ast.ClassDef) or not (is_plain_one or is_setter(above, node)):
             yield node.lineno, "a decorator"
     if isinstance(node, ast.ClassDef):
-        names = [one.name for one in node.body if isinstance(one, ast.FunctionDef)]
+        names = [one.name for one in node.body if isinstance(one, ast.FunctionDef) and not is_setter(node, one)]
         if len(names) != len(set(names)) or not isinstance(above, ast.Module):
             yield node.lineno, "a method twice, or a class in another place"
     elif node.name.startswith("__") and node.name not in DUNDERS:
@@ -168,6 +171,31 @@ def definitions(file, node):
         last = [one for one in node.body if not isinstance(one, ast.Expr)]
         if len(last) != 1 or not isinstance(last[0], ast.Return):
             yield node.lineno, f"{node.name} does more than return"
+
+
+def is_setter(above, node):
+    """Whether a function in a class is the setter of a property that stands ahead of it."""
+    if not isinstance(node, ast.FunctionDef) or [ast.unparse(one) for one in node.decorator_list] != [f"{node.name}.setter"]:
+        return False
+    ahead = above.body[:above.body.index(node)]
+    return any(is_property(one) and one.name == node.name for one in ahead) and len(node.args.args) == 2
+
+
+def is_property(node):
+    """Whether a node is a function that is read as an attribute."""
+    return isinstance(node, ast.FunctionDef) and [ast.unparse(one) for one in node.decorator_list] == ["property"]
+
+
+def given_properties(file):
+    """L5: an attribute is assigned only if every class that has a property of that name has its setter."""
+    lacking = {}
+    for other in files() + [file]:
+        for above in other.each(ast.ClassDef):
+            setters = [one.name for one in above.body if is_setter(above, one)]
+            lacking.update({one.name: above.name for one in above.body if is_property(one) and one.name not in setters})
+    for node in file.each(ast.Attribute):
+        if not isinstance(node.ctx, ast.Load) and node.attr in lacking:
+            yield node.lineno, f"{node.attr} is assigned, and {lacking[node.attr]} has it without a setter"
 
 
 def names(file):
@@ -275,7 +303,7 @@ def circles():
     return []
 
 
-CHECKS = [characters, words, module_level, statements, names, calls, strings, named_values]
+CHECKS = [characters, words, module_level, statements, given_properties, names, calls, strings, named_values]
 
 
 def faults(file):

@@ -31,6 +31,18 @@ class TestFacts(unittest.TestCase):
             self.assertEqual((made.facts(), made.names(), made.depth), ([made], ["a", "b", "c"], 0))
         self.assertEqual(str(Divides(Size(), Size())), "1 | 1")
 
+    def test_one_and_other_do_not_change(self):
+        for kind in (Divides, Equals):
+            made = kind(A, B)
+            for value in (B, A, None):
+                with self.assertRaises(AttributeError):
+                    made.one = value
+                with self.assertRaises(AttributeError):
+                    made.other = value
+                with self.assertRaises(AttributeError):
+                    del made.other
+            self.assertEqual((made.one, made.other, made), (A, B, kind(A, B)))
+
     def test_rows(self):
         made = fact("a^2*b | b*c^3")
         self.assertEqual([made.exponent(name) for name in ("a", "b", "c", "d")], [-2, 0, 3, 0])

@@ -37,6 +37,11 @@ BAD = {
     "def f():\n    try:\n        pass\n    except ValueError:\n        pass\n": "caught", "def f(x):\n    return {x}\n": "Set",
     "def f(x: int):\n    return x\n": "annotation", "X = 1\nX = 2\n": "twice", "import os\n": "statement Import",
     "def f():\n" + "    x = 1\n" * 40: "too long", "def f(x):\n    return print(x)\n": "builtin print", "x = [lambda: 1][0]()\n": "call",
+    "class A:\n    @property\n    def n(self):\n        return 1\n\n\nclass B:\n    def __init__(self):\n        self.n = 1\n":
+        "n is assigned, and A has it without a setter",
+    "def f(box):\n    for box.other in [1]:\n        return\n\n\nclass A:\n    @property\n    def other(self):\n        return 1\n":
+        "other is assigned",
+    "class A:\n    def n(self):\n        return 1\n\n    @n.setter\n    def n(self, value):\n        pass\n": "a decorator",
     "def f(x):\n    return x is 1.5\n": "is beside", "def f():\n    global x\n    x = 1\n": "statement Global",
 }
 
@@ -64,6 +69,17 @@ class TestSubset(unittest.TestCase):
                 except SyntaxError as error:
                     found = [f"is beside {error}"]
                 self.assertTrue(any(fault in line for line in found), (text, found))
+
+
+    def test_a_property_with_a_setter_may_be_assigned(self):
+        text = ("class A:\n    @property\n    def n(self):\n        return 1\n\n    @n.setter\n    def n(self, value):\n        pass\n"
+                "\n\nclass B:\n    def __init__(self):\n        self.n = 1\n")
+        with tempfile.TemporaryDirectory() as folder:
+            path = pathlib.Path(folder) / "good.py"
+            path.write_text(text, encoding="utf-8")
+            found = rules.faults(rules.File(path))
+        # The attribute of B still has the name of a method of this file.
+        self.assertEqual(found, ["good.py:13: n is a method and an attribute"])
 
 
 class TestInterface(unittest.TestCase):
