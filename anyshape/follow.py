@@ -22,15 +22,17 @@ class Always:
     def divides(self, one, other):
         """Whether the first Size always divides the second one."""
         check_sizes([one, other])
-        return self._scales.finds_whole(other.over(one))
+        return self._scales.divides(one, other)
 
     def equals(self, one, other):
         """Whether the Sizes are always equal."""
-        return self.divides(one, other) and self.divides(other, one)
+        check_sizes([one, other])
+        return self._scales.equals(one, other)
 
     def is_one(self, size):
         """Whether the Size is always 1."""
-        return self.equals(size, Size())
+        check_sizes([size])
+        return self._scales.is_one(size)
 
 
 def follows(facts, goal):

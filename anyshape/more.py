@@ -1,10 +1,9 @@
 """Names that are always 1, names that are alike, and lean facts."""
 
+from anyshape.cases import lean_positions
 from anyshape.checks import check_facts, joined_names
 from anyshape.cones import Cone
 from anyshape.goals import names_in
-from anyshape.proofs import point_against
-from anyshape.scales import Scales
 
 
 def ones(facts, *, names=()):
@@ -30,10 +29,4 @@ def lean(facts):
     """The ascending list of the positions of the facts that are left if they are made lean."""
     check_facts(facts)
     joined_names(names_in(facts), [])
-    left = list(range(len(facts)))
-    for position in range(len(facts) - 1, -1, -1):
-        others = [at for at in left if at != position]
-        scales = Scales([facts[at] for at in others])
-        if point_against(scales, facts[position]) is None:
-            left = others
-    return left
+    return lean_positions([], facts)

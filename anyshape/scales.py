@@ -4,6 +4,7 @@ from anyshape.balance import balanced
 from anyshape.counts import added, common_divisor, named_counts
 from anyshape.facts import Equals
 from anyshape.goals import names_in
+from anyshape.sizes import Size
 
 
 class Scales:
@@ -16,6 +17,8 @@ class Scales:
         # A fact that EQUALS may have a weight below 0, so its row stands there both ways.
         exact = [row for row, is_exact in zip(rows, self._is_exact) if is_exact]
         self._columns = rows + [[-exponent for exponent in row] for row in exact]
+        # The same few Sizes are asked for again and again.
+        self._found = {}
 
     def weighed(self, size):
         """A pair: a why that 1 divides the Size and None, or None and a point against it."""
@@ -35,7 +38,22 @@ class Scales:
 
     def finds_whole(self, size):
         """Whether the Size is always an integer."""
-        return self.weighed(size)[1] is None
+        key = tuple(size.exponents().items())
+        if key not in self._found:
+            self._found[key] = self.weighed(size)[1] is None
+        return self._found[key]
+
+    def divides(self, one, other):
+        """Whether the first Size always divides the second one."""
+        return self.finds_whole(other.over(one))
+
+    def equals(self, one, other):
+        """Whether the Sizes are always equal."""
+        return one == other or (self.divides(one, other) and self.divides(other, one))
+
+    def is_one(self, size):
+        """Whether the Size is always 1."""
+        return self.equals(size, Size())
 
     def _weights(self, parts):
         """The weights of the facts, from the amounts of the columns."""

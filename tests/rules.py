@@ -31,6 +31,8 @@ BANNED_TEXT = set("""type typing typing_extensions enum Enum IntEnum StrEnum Fla
 BANNED_NAMES = set("""register mro elements open input law version_info with_traceback add_note attrgetter breakpoint builtins
     compile copyright credits delattr dir eval exec exit gc globals help id importlib license locals methodcaller os quit vars
     sys args format""".split())
+BESIDE = [("property", "method"), ("property", "classmethod"), ("classmethod", "method"), ("classmethod", "attribute"),
+          ("method", "attribute"), ("class value", "method"), ("class value", "attribute"), ("class value", "property")]
 LAZY = {"zip", "enumerate", "range", "reversed"}
 EAGER = {"list", "tuple", "dict", "sorted", "sum", "any", "all", "enumerate", "zip", "min", "max"}
 
@@ -110,9 +112,13 @@ def module_level(file):
 
 
 def is_plain(node):
-    """Whether the node is a constant, or numbers joined by signs."""
+    """Whether the node is a constant, numbers joined by signs, or a tuple or a dict of such and of names."""
     if isinstance(node, ast.BinOp):
         return is_plain(node.left) and is_plain(node.right)
+    if isinstance(node, ast.Tuple):
+        return all(isinstance(one, ast.Constant) for one in node.elts)
+    if isinstance(node, ast.Dict):
+        return all(isinstance(one, (ast.Constant, ast.Name)) for one in node.keys + node.values)
     return isinstance(node, ast.Constant)
 
 
@@ -228,7 +234,7 @@ def calls(file):
     for node in file.each(ast.Call):
         if isinstance(node.func, ast.Name):
             name = node.func.id
-            if hasattr(builtins, name) and name not in BUILTINS | ERRORS | {"super"}:
+            if hasattr(builtins, name) and name not in BUILTINS | ERRORS | {"super"} and not is_iterator(file, node):
                 yield node.lineno, f"the builtin {name}"
             if name in BUILTINS and any(key.arg not in ("key", "reverse", "default", "start", "strict") for key in node.keywords):
                 yield node.lineno, f"a keyword of {name}"
@@ -252,6 +258,14 @@ def calls(file):
     for node in file.each(ast.ExceptHandler):
         if not isinstance(node.type, ast.Name) or node.type.id in ERRORS - {"KeyError", "ZeroDivisionError"}:
             yield node.lineno, "an error that is not to be caught here"
+
+
+def is_iterator(file, node):
+    """Whether a call is all that an object gives that is iterated over."""
+    above = file.above[node]
+    if node.func.id != "iter" or not isinstance(above, ast.Return) or getattr(file.above[above], "name", "") != "__iter__":
+        return False
+    return len(file.above[above].body) == 1 and isinstance(node.args[0], ast.Attribute)
 
 
 def is_iterated(file, node):
@@ -289,6 +303,30 @@ def named_values(file):
     for node in file.each(ast.Attribute):
         if isinstance(node.ctx, ast.Store) and node.attr in methods:
             yield node.lineno, f"{node.attr} is a method and an attribute"
+
+
+def shared_names(all_files):
+    """L5, L18, L23: names of properties, class methods, generators and attributes that something else has, too."""
+    kinds = {kind: set() for kind in ("property", "classmethod", "method", "generator", "attribute", "class value")}
+    times = []
+    for file in all_files:
+        for node in file.each(ast.FunctionDef):
+            words = [ast.unparse(one) for one in node.decorator_list]
+            if any(isinstance(one, (ast.Yield, ast.YieldFrom)) for one in ast.walk(node)):
+                kinds["generator"].add(node.name)
+                times.append(node.name)
+            elif words in (["property"], ["classmethod"]):
+                kinds[words[0]].add(node.name)
+            elif isinstance(file.above[node], ast.ClassDef) and not words:
+                kinds["method"].add(node.name)
+            elif not words:
+                times.append(node.name)
+        kinds["attribute"] |= {node.attr for node in file.each(ast.Attribute) if not isinstance(node.ctx, ast.Load)}
+        kinds["class value"] |= {node.targets[0].id for node in file.each(ast.Assign)
+                                 if isinstance(file.above[node], ast.ClassDef)}
+    faults = [f"{name} is a {one} and a {other}" for one, other in BESIDE for name in sorted(kinds[one] & kinds[other])]
+    return faults + [f"{name} is a generator and something else" for name in sorted(kinds["generator"])
+                     if times.count(name) > 1 or name in kinds["method"]]
 
 
 def circles():

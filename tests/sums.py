@@ -9,8 +9,8 @@ from anyshape.sizes import Size
 
 
 def size(text):
-    """The Size with this text."""
-    return Size.read(text)
+    """The Size with this text, its names in any sequence."""
+    return Size.product(*map(Size.read, text.split("*")))
 
 
 def fact(text):

@@ -49,8 +49,8 @@ BAD = {
 class TestSubset(unittest.TestCase):
 
     def test_each_file_keeps_to_the_rules(self):
-        for file in rules.files():
-            self.assertEqual(rules.faults(file), [])
+        self.assertEqual([fault for file in rules.files() for fault in rules.faults(file)], [])
+        self.assertEqual(rules.shared_names(rules.files()), [])
         self.assertEqual(rules.circles(), [])
 
     def test_the_folder_has_nothing_else(self):
