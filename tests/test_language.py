@@ -19,17 +19,47 @@ LISTED = {
               "Equals": "facts names depth holds_at holds_for one other exponent kept_by __eq__ __str__ __repr__"},
     "cones": {"Cone": "facts names rays is_within __len__ __contains__ __and__ __eq__"},
     "follow": {"Always": "divides equals is_one"},
+    "programs": {"Program": "inputs lines facts arrays names axis_count leaf_count line_of extended knowing only result __contains__"
+                            " __len__ __eq__ __repr__"},
+    "shapes": {"Answer": "is_yes", "Runs": "is_yes __eq__ __repr__", "Fails": "__init__ is_yes __eq__ __repr__"},
+    "runner": {"Runner": "program numbers failing __contains__ __eq__ shape cost cell cell_at walk cell_values"},
+    "rows": {"Digit": "radix factor turned", "Unused": "radix factor turned __eq__ __repr__", "Straight": "radix factor turned __eq__ __repr__",
+             "Turned": "radix factor turned __eq__ __repr__",
+             "Row": "digits __len__ __iter__ total cuts place melted cut_at __eq__ __repr__"},
+    "places": {"Leaf": "source row tops bound place __eq__", "Crossed": "__init__ is_yes __eq__ __repr__"},
+    "bits": {"BitLeaf": "source wires ones bound wire place __eq__"},
 }
-PROPERTIES = "is_whole top bottom depth one other".split()
+PROPERTIES = ("is_whole top bottom depth one other result is_yes program numbers failing radix factor total source row tops bound wires"
+              " ones").split()
 FUNCTIONS = {
     "numbers": {"is_name": "(value)", "is_numbers": "(value)", "is_point": "(value)", "primes": "(many)",
                 "numbers_of": "(points, *names)"},
     "follow": {"follows": "(facts, goal)", "why": "(facts, goal)", "against": "(facts, goal, *, full=False)",
                "is_why": "(facts, goal, value)", "is_against": "(facts, goal, value)"},
     "more": {"ones": "(facts, *, names=())", "alike_names": "(facts, *, names=())", "lean": "(facts)"},
+    "weakest": {"weakest": "(facts, goal)", "is_weakest": "(facts, goal, value)"},
+    "programs": {"Program": "(inputs, lines=(), facts=())"},
+    "shapes": {"Runs": "()", "Fails": "(line, axis, points)", "runs": "(program)", "is_fails": "(program, value)", "shape": "(program, name=None)",
+               "shape_at": "(program, numbers, name=None)"},
+    "needs": {"pair_count": "(program)", "needs": "(program)", "is_needs": "(program, value)"},
+    "terms": {"is_term": "(value)", "put_together": "(word, terms)", "reads_of": "(term)", "term_text": "(term)"},
+    "runner": {"Runner": "(program, numbers)"},
+    "rows": {"Unused": "(radix)", "Straight": "(radix, factor)", "Turned": "(radix, factor)", "Row": "(digits=())"},
+    "places": {"Crossed": "(line, cut, other)", "crossing": "(program, name=None)", "tree_of": "(program, name=None)",
+               "leaves": "(program, name=None)", "term_at": "(program, numbers, index, name=None)"},
+    "bits": {"length_of": "(size, point)", "lengths_at": "(program, point, name=None)", "bit_tree": "(program, point, name=None)"},
+    "bitruns": {"normal_bits": "(program, point, name=None)", "parting_at": "(one, other, point)"},
     "sizes": {"Size": "(exponents=None)"}, "goals": {"Both": "(*goals)", "Either": "(*goals)"},
     "facts": {"Divides": "(one, other)", "Equals": "(one, other)"}, "cones": {"Cone": "(facts, *, names=())"},
 }
+METHODS = [("runner.Runner", "shape", "(self, name=None)"), ("runner.Runner", "cost", "(self, name=None)"),
+           ("runner.Runner", "cell", "(self, positions, name=None)"), ("runner.Runner", "cell_at", "(self, number, name=None)"),
+           ("runner.Runner", "walk", "(self, name=None)"), ("runner.Runner", "cell_values", "(self, contents, meanings, name=None)"),
+           ("programs.Program", "extended", "(self, *lines)"), ("programs.Program", "knowing", "(self, *facts)"),
+           ("programs.Program", "only", "(self, name=None)"), ("programs.Program", "line_of", "(self, name=None)"),
+           ("rows.Row", "place", "(self, index, numbers)"), ("rows.Row", "melted", "(self, facts)"), ("rows.Row", "cut_at", "(self, size, facts)"),
+           ("places.Leaf", "place", "(self, index, numbers, inner=())"), ("bits.BitLeaf", "place", "(self, runs, inner=())"),
+           ("bits.BitLeaf", "wire", "(self, position)")]
 BAD = {
     "x = any(y for y in [])\n": "GeneratorExp", "def f(n):\n    return 2 ** n\n": "exponent", "x = 1 / 2\n": "Div",
     "def f(list):\n    return 1\n": "variable list", "def f():\n    y = zip([], [])\n": "zip is not",
@@ -71,6 +101,18 @@ class TestSubset(unittest.TestCase):
                 self.assertTrue(any(fault in line for line in found), (text, found))
 
 
+    def test_names_that_two_kinds_share_are_seen(self):
+        text = ("class A:\n    TOP = 1\n\n    @property\n    def one(self):\n        return 1\n\n    @classmethod\n    def two(cls):\n        return 2\n\n"
+                "    def three(self):\n        yield 3\n\n\nclass B:\n    def one(self):\n        self.two = 1\n        self.TOP = 2\n\n"
+                "    def two(self):\n        self.four = 4\n\n    def four(self):\n        return 4\n\n\ndef three():\n    return 3\n")
+        with tempfile.TemporaryDirectory() as folder:
+            path = pathlib.Path(folder) / "bad.py"
+            path.write_text(text, encoding="utf-8")
+            found = rules.shared_names([rules.File(path)])
+        self.assertEqual(found, ["one is a property and a method", "two is a classmethod and a method", "two is a classmethod and a attribute",
+                                 "four is a method and a attribute", "two is a method and a attribute", "TOP is a class value and a attribute",
+                                 "three is a generator and something else"])
+
     def test_a_property_with_a_setter_may_be_assigned(self):
         text = ("class A:\n    @property\n    def n(self):\n        return 1\n\n    @n.setter\n    def n(self, value):\n        pass\n"
                 "\n\nclass B:\n    def __init__(self):\n        self.n = 1\n")
@@ -100,7 +142,17 @@ class TestInterface(unittest.TestCase):
             for name, parameters in functions.items():
                 made = getattr(importlib.import_module(f"anyshape.{module}"), name)
                 self.assertEqual((made.__module__, str(inspect.signature(made))), (f"anyshape.{module}", parameters))
-        self.assertTrue(inspect.isgeneratorfunction(importlib.import_module("anyshape.numbers").primes))
+        for module, name in (("numbers", "primes"), ("places", "leaves"), ("runner", "Runner.walk")):
+            made = importlib.import_module(f"anyshape.{module}")
+            for part in name.split("."):
+                made = getattr(made, part)
+            self.assertTrue(inspect.isgeneratorfunction(made))
+
+    def test_methods_have_their_parameters(self):
+        for place, method, parameters in METHODS:
+            module, name = place.split(".")
+            made = getattr(importlib.import_module(f"anyshape.{module}"), name)
+            self.assertEqual(str(inspect.signature(getattr(made, method))), parameters)
 
 
 if __name__ == "__main__":
