@@ -49,11 +49,9 @@ def _refilled(measure, line, shape):
     """The shape with the sizes of a split, or none for a drop, in place of an axis that their product must equal."""
     axis = line[3]
     sizes = [measure.measured(size) for size in line[4]] if line[1] == "split" else []
-    one, other = measure.times(sizes), shape[axis]
-    if line[1] == "drop":
-        one, other = other, one
-    if not measure.are_same(one, other):
-        return None, (axis, one, other, False)
+    product = measure.times(sizes)
+    if not measure.are_same(product, shape[axis]):
+        return None, (axis, product, shape[axis], False)
     return shape[:axis] + tuple(sizes) + shape[axis + 1:], None
 
 

@@ -83,6 +83,10 @@ class TestLengths(unittest.TestCase):
                 with self.assertRaises(InvalidPoint) as caught:
                     function(made, value, "w")
                 self.assertIs(caught.exception.value, value)
+            for value in NO_POINTS:
+                with self.assertRaises(InvalidPoint) as caught:
+                    function(program({"x": "n m"}), value, "w")
+                self.assertIs(caught.exception.value, value)
             for value in NO_ARRAYS:
                 with self.assertRaises(UnknownArray) as caught:
                     function(made, {"m": 1}, value)
@@ -181,7 +185,7 @@ class TestWirings(unittest.TestCase):
             program({"x": "n"}), program({"y": "n"}), program({"x": "m"}), program({"x": "n"}, ("a", "turn", "x", 0)),
             program({"x": "n m"}, ("a", "turn", "x", 0), ("b", "pick", "a", 0)), program({"x": "n m"}, ("a", "pick", "x", 1)),
             program({"x": "n m"}, ("a", "sum", "x", (0,))))]
-        for one, other in itertools.permutations(found, 2):
+        for one, other in itertools.permutations(found + [None, found[0].wires], 2):
             self.assertFalse(one == other)
         self.assertEqual(found[0], leaves_of(bit_tree(program({"x": "n k"}, ("a", "pick", "x", 1)), {"n": 2}))[0])
         self.assertIsInstance(found[0], BitLeaf)

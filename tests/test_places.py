@@ -9,7 +9,7 @@ from anyshape.failures import BrokenFact, CannotCut, DoesNotRun, IsCrossed, TooM
 from anyshape.follow import Always
 from anyshape.places import Crossed, Leaf, crossing, leaves, term_at, tree_of
 from anyshape.programs import Program
-from anyshape.rows import Row, Turned
+from anyshape.rows import Row, Turned, Unused
 from anyshape.runner import Runner
 from anyshape.shapes import shape
 from anyshape.sizes import Size
@@ -157,6 +157,8 @@ class TestLeaves(unittest.TestCase):
         self.assertIsInstance(list(leaves(self.made))[0], Leaf)
         found = [list(leaves(made))[0] for made in (self.made, self.made.only("c"), self.made.only("b"), program({"x": "n m k"}), program({"y": "n m k"}),
                                                     program({"x": "m*k"}, ("a", "sum", "x", (0,))))]
+        found = found + [Leaf("x", [Unused(N)], [], []), Leaf("x", [Unused(N)], [(N, M)], []), Leaf("x", [Unused(N)], [], [[Unused(N)]]),
+                         Leaf("x", [Unused(M)], [], []), Leaf("y", [Unused(N)], [], []), None]
         for one, other in itertools.permutations(found, 2):
             self.assertFalse(one == other)
         self.assertFalse(found[0] == told(found[0]))
@@ -225,6 +227,13 @@ class TestCrossing(unittest.TestCase):
         self.assertEqual((crossing(made, "q"), crossing(made, "s")), (Crossed(4, M, N), Crossed(6, M, N)))
         made = program({"x": "n m", "u": "n k m"}, *CROSSING[:3], ("p", "spread", "v", 1, ONE), ("q", "cells", "f", ("u", "p")))
         self.assertEqual(crossing(made), Crossed(4, M, N))
+
+    def test_axes_that_are_1_cut_nothing(self):
+        made = program({"x": "n m"}, *CROSSING[:3], ("p", "spread", "v", 1, ONE))
+        for line in (("q", "turn", "p", 1), ("q", "pick", "p", 1), ("q", "drop", "p", 1), ("q", "sum", "p", (1,)), ("q", "spread", "p", 1, ONE),
+                     ("q", "permute", "p", (1, 0, 2)), ("q", "permute", "p", (0, 2, 1)), ("q", "cells", "f", ("p", "p"))):
+            self.assertIsNone(crossing(made.extended(line)))
+        self.assertEqual(crossing(made.extended(("q", "permute", "p", (2, 1, 0)))), Crossed(4, M, N))
 
     def test_by_rows(self):
         crossed = 0

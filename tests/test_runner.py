@@ -191,6 +191,7 @@ class TestLimits(unittest.TestCase):
         runner = Runner(self.MADE, {"n": 100, "m": 200, "k": 1})
         self.assertEqual((runner.cost("b"), len(runner.cell([], "b")[1])), (20000, 200))
         self.assertEqual(len(list(runner.walk("a"))), 200)
+        self.assertEqual(runner.cell_at(0, "b"), runner.cell([], "b"))
         for call in (lambda: runner.cell([], "c"), lambda: runner.cell_at(0, "c"), lambda: list(runner.walk("c"))):
             self.check("terms", 20000, call)
         self.check("cells", 4096, lambda: list(runner.walk("d")))

@@ -60,6 +60,13 @@ class TestAnswers(unittest.TestCase):
             self.assertEqual((made.line, made.axis, made.points), (value, [value], {"a": value}))
             self.assertEqual(made, Fails(value, [value], {"a": value}))
 
+    def test_crossed(self):
+        made = Crossed(2, N, M)
+        self.assertEqual((made.line, made.cut, made.other, repr(made)), (2, N, M, "Crossed(2, Size('n'), Size('m'))"))
+        self.assertEqual(made, Crossed(line=2, cut=size("n"), other=size("m")))
+        for other in (Crossed(1, N, M), Crossed(2, M, M), Crossed(2, N, N), Runs(), None, Fails(2, N, M)):
+            self.assertFalse(made == other)
+
     def test_what_was_passed_may_change(self):
         points = [{"n": 1}]
         made, other = Fails(0, 0, points), Crossed([points], (points,), {"a": points})
@@ -241,6 +248,14 @@ class TestShapeAt(unittest.TestCase):
                 with self.assertRaises(InvalidNumbers) as caught:
                     shape_at(self.made, value, name)
                 self.assertIs(caught.exception.value, value)
+
+    def test_numbers_come_ahead_of_facts_and_lines(self):
+        made = program({"x": "n m"}, ("a", "drop", "x", 0), ("b", "spread", "x", 0, K), given=("n | m",))
+        for name in ("x", "a", "b"):
+            with self.assertRaises(InvalidNumbers):
+                shape_at(made, {"n": 2, "m": 3}, name)
+            with self.assertRaises(BrokenFact):
+                shape_at(made, {"n": 2, "m": 3, "k": 1}, name)
 
     def test_facts(self):
         for numbers, position in (({"n": 3, "m": 4, "k": 1, "q": 1}, 1), ({"n": 2, "m": 4, "k": 1, "q": 1}, 2), ({"n": 3, "m": 2, "k": 5, "q": 5}, 1)):

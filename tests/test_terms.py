@@ -9,6 +9,15 @@ from anyshape.terms import is_term, put_together, reads_of, term_text
 from makers import word
 from values import no_lists, no_names, odd_values
 
+
+
+class Box:
+    """An object that is equal to everything."""
+
+    def __eq__(self, other):
+        return True
+
+
 X0, X1, Y0 = ("in", "x", 0), ("in", "x", 1), ("in", "y", 0)
 F = ("let", "f", (X1, X0, X1))
 SUM = ("sum", (X0, X0, X1))
@@ -23,7 +32,8 @@ WRONG = [("in", "x"), ("in", "x", 0, 0), ("in", "x", -1), ("in", "x", True), ("i
          ("sum", (X0,)), ("sum", ()), ("sum", X0), ("sum", [X0, X1]), ("sum", (X1, X0)), ("sum", (X0, SUM)), ("sum",), (), ("sum", 2),
          ("least", (X0, X0)), ("greatest", (X0, X0)), ("least", (X0, ("least", (X0, X1)))), ("sum", "x", (X0, X1)), ("sums", (X0, X1)),
          ("least", (Y0, X0)), ("greatest", (SUM, X0)), ("let", "f", (("sum", (X1, X0)),)), ("greatest", (X0, ("in", "x", True))),
-         (["sum"], (X0, X1)), ("in",), ("let",), ("let", "f"), (1, (X0, X1)), (None, (X0, X1))]
+         (["sum"], (X0, X1)), ("in",), ("let",), ("let", "f"), (1, (X0, X1)), (None, (X0, X1)),
+         ("let", "f", (X0,), (X0,)), (Box(), "x", 0), (Box(), (X0, X1)), (Box(), "f", (X0,))]
 
 
 class TestIsTerm(unittest.TestCase):
@@ -65,7 +75,7 @@ class TestPutTogether(unittest.TestCase):
                 pool.append(told)
 
     def test_refusals(self):
-        for value in no_lists() + odd_values() + ["in", "let", "Sum", "sums", ("sum",), ["sum"]]:
+        for value in no_lists() + odd_values() + ["in", "let", "Sum", "sums", ("sum",), ["sum"], Box()]:
             with self.assertRaises(InvalidWord) as caught:
                 put_together(value, None)
             self.assertIs(caught.exception.value, value)
