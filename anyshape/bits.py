@@ -7,7 +7,7 @@ from anyshape.measures import ByLengths
 from anyshape.numbers import is_point
 from anyshape.programs import named_array
 from anyshape.shaping import shapes_by
-from anyshape.weaving import changed_tree, woven_tree
+from anyshape.weaving import changed_tree, woven_trees
 from anyshape.wirings import joined_runs, melted_wiring, parted_wiring, run_at, runs_through
 
 
@@ -24,6 +24,11 @@ class BitLeaf:
     def source(self):
         """The name of the input."""
         return self._source
+
+    @source.setter
+    def source(self, value):
+        # It refuses: an answer has an attribute of this name that is assigned.
+        raise AttributeError("a leaf does not change")
 
     @property
     def wires(self):
@@ -108,7 +113,7 @@ def bit_tree(program, point, name=None):
     check_keeping(point, program.facts())
     found = named_array(program, name)
     shapes = all_lengths(program, point, found)
-    return changed_tree(woven_tree(BitRows(point), program, shapes, found), _leaf_of)
+    return changed_tree(woven_trees(BitRows(point), program, shapes, found)[found], _leaf_of)
 
 
 def check_keeping(value, facts):

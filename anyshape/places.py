@@ -5,12 +5,13 @@ from anyshape.failures import IsCrossed, TooMany
 from anyshape.kinds import is_integer
 from anyshape.measures import BySizes, product_of
 from anyshape.programs import named_array
-from anyshape.rows import Row, Straight, Turned, Unused, cut_digits, digits_at, melted_digits, place_at
+from anyshape.rows import Row, digits_at, place_at
 from anyshape.runner import MOST_TERMS, Runner
 from anyshape.shapes import Answer, always_shapes, copied
 from anyshape.sizes import Size
+from anyshape.strands import strands_behind
 from anyshape.terms import word_over
-from anyshape.weaving import changed_tree, leaves_in, woven_tree
+from anyshape.weaving import changed_tree, leaves_in
 
 
 class Leaf:
@@ -26,6 +27,11 @@ class Leaf:
     def source(self):
         """The name of the input."""
         return self._source
+
+    @source.setter
+    def source(self, value):
+        # It refuses: an answer has an attribute of this name that is assigned.
+        raise AttributeError("a leaf does not change")
 
     @property
     def row(self):
@@ -75,48 +81,6 @@ class Crossed(Answer):
         return f"Crossed({self.line!r}, {self.cut!r}, {self.other!r})"
 
 
-class SizeRows(BySizes):
-    """The craft of rows at all sizes."""
-
-    def plain(self, total):
-        """The digit of the array with this total that is an input."""
-        return Straight(total, Size())
-
-    def unused(self, radix):
-        """A digit for a further axis."""
-        return Unused(radix)
-
-    def flipped(self, digit):
-        """The digit the other way."""
-        return digit.turned()
-
-    def tops_left(self, digits):
-        """The list of the tops that digits leave if their values are 0."""
-        return [(digit.factor, digit.factor * digit.radix) for digit in digits if isinstance(digit, Turned)]
-
-    def melted(self, digits):
-        """The list of the digits, melted."""
-        return melted_digits(self.scales(), digits)
-
-    def parted(self, digits, boundary):
-        """The list of the digits, cut at a boundary, and the number of those below it."""
-        return cut_digits(self.scales(), digits, boundary)
-
-    def settled(self, tops):
-        """The list of the tops, those that meet joined, in ascending sequence."""
-        ascending = []
-        for low, high in tops:
-            later = [pair for pair in ascending if self.scales().divides(high, pair[0])]
-            ascending = ascending[:len(ascending) - len(later)] + [(low, high)] + later
-        joined = ascending[:1]
-        for low, high in ascending[1:]:
-            if self.are_same(joined[-1][1], low):
-                joined[-1] = (joined[-1][0], high)
-            else:
-                joined.append((low, high))
-        return joined
-
-
 def crossing(program, name=None):
     """The Crossed of an array, or None if it is not crossed."""
     try:
@@ -124,6 +88,15 @@ def crossing(program, name=None):
     except IsCrossed as found:
         return Crossed(found.line, found.cut, found.other)
     return None
+
+
+def is_same_crossed(scales, known, value):
+    """Whether any value is a Crossed that tells the same as a known one."""
+    if not isinstance(value, Crossed) or not is_integer(value.line) or value.line != known.line:
+        return False
+    if not isinstance(value.cut, Size) or not isinstance(value.other, Size):
+        return False
+    return scales.equals(known.cut, value.cut) and scales.equals(known.other, value.other)
 
 
 def tree_of(program, name=None):
@@ -152,9 +125,8 @@ def term_at(program, numbers, index, name=None):
 
 def _strands(program, name):
     """The tree of an array, with strands."""
-    found = named_array(program, name)
-    craft = SizeRows(program.facts())
-    return woven_tree(craft, program, always_shapes(craft, program), found)
+    _, _, trees, found = strands_behind(program, name)
+    return trees[found]
 
 
 def _leaf_of(strand):

@@ -20,6 +20,10 @@ class Answer:
         """Whether the answer is a yes."""
         return False
 
+    def again(self):
+        """An equal answer that shares no list and no dict with this one."""
+        return self
+
 
 class Runs(Answer):
     """The program always runs."""
@@ -49,6 +53,10 @@ class Fails(Answer):
         """Whether the answer is a yes."""
         return False
 
+    def again(self):
+        """An equal answer that shares no list and no dict with this one."""
+        return Fails(self.line, self.axis, self.points)
+
     def __eq__(self, other):
         return (isinstance(other, Fails) and self.line == other.line
                 and self.axis == other.axis and self.points == other.points)
@@ -58,22 +66,25 @@ class Fails(Answer):
 
 
 def copied(value):
-    """Any value, its lists, tuples and dicts copied, also inside."""
+    """Any value, its lists, tuples, dicts and answers copied, also inside."""
     if isinstance(value, list):
         return [copied(item) for item in value]
     if isinstance(value, tuple):
         return tuple([copied(item) for item in value])
     if isinstance(value, dict):
         return {key: copied(value[key]) for key in value}
-    return value
+    return value.again() if isinstance(value, Answer) else value
 
 
 def runs(program):
     """Runs if the program always runs, otherwise a Fails."""
     measure = BySizes(program.facts())
     _, broken = shapes_by(measure, program)
-    if broken is None:
-        return Runs()
+    return Runs() if broken is None else fails_of(measure, broken)
+
+
+def fails_of(measure, broken):
+    """The Fails for the position of a line and a condition of it that does not always hold."""
     line, condition = broken
     return Fails(line, condition[0], points_against(measure.scales(), _goal_of(condition)))
 

@@ -25,6 +25,12 @@ def shapes_by(measure, program):
     return shapes, None
 
 
+def totals_by(measure, program):
+    """The list of the numbers of cells of all arrays of a program of which all conditions hold."""
+    shapes, _ = shapes_by(measure, program)
+    return [measure.times(shape) for shape in list(shapes.values())]
+
+
 def line_shape(measure, line, shapes):
     """The shape that a line makes from the shapes that it reads, and None, or None and the condition that is broken."""
     word, shape = line[1], shapes[0]
@@ -49,9 +55,12 @@ def _refilled(measure, line, shape):
     """The shape with the sizes of a split, or none for a drop, in place of an axis that their product must equal."""
     axis = line[3]
     sizes = [measure.measured(size) for size in line[4]] if line[1] == "split" else []
-    product = measure.times(sizes)
-    if not measure.are_same(product, shape[axis]):
-        return None, (axis, product, shape[axis], False)
+    one, other = measure.times(sizes), shape[axis]
+    if line[1] == "drop":
+        # The condition says this of the size first, then of 1.
+        one, other = other, one
+    if not measure.are_same(one, other):
+        return None, (axis, one, other, False)
     return shape[:axis] + tuple(sizes) + shape[axis + 1:], None
 
 

@@ -11,8 +11,8 @@ from anyshape.lines import WORDS
 from anyshape.programs import lines_behind
 
 
-def woven_tree(craft, program, shapes, name):
-    """The tree of an array, its leaves being strands; raise if it is crossed."""
+def woven_trees(craft, program, shapes, name):
+    """A dict of the trees of an array and of those that it is made from; raise if it is crossed."""
     trees = {}
     for source, _ in program.inputs():
         digits = craft.melted([craft.plain(craft.times(shapes[source]))])
@@ -24,7 +24,7 @@ def woven_tree(craft, program, shapes, name):
             trees[line[0]] = _line_tree(craft, line, shapes, trees)
         except CannotCut as barred:
             raise IsCrossed(position, barred.cut, barred.other) from None
-    return trees[name]
+    return trees
 
 
 def changed_tree(tree, change):

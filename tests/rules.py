@@ -252,12 +252,20 @@ def calls(file):
                 yield node.lineno, f"a keyword of {name}"
         else:
             yield node.lineno, "a call of something else"
+        for star in node.args:
+            if isinstance(star, ast.Starred) and not (isinstance(star.value, ast.Name) or is_field(star.value)):
+                yield node.lineno, "a star over something else"
     for node in file.each(ast.Raise):
         if not (isinstance(node.exc, ast.Call) and isinstance(node.exc.func, ast.Name)):
             yield node.lineno, "an error that is not created on the spot"
     for node in file.each(ast.ExceptHandler):
         if not isinstance(node.type, ast.Name) or node.type.id in ERRORS - {"KeyError", "ZeroDivisionError"}:
             yield node.lineno, "an error that is not to be caught here"
+
+
+def is_field(node):
+    """Whether a node is an attribute of a name."""
+    return isinstance(node, ast.Attribute) and isinstance(node.value, ast.Name)
 
 
 def is_iterator(file, node):
@@ -314,7 +322,6 @@ def shared_names(all_files):
             words = [ast.unparse(one) for one in node.decorator_list]
             if any(isinstance(one, (ast.Yield, ast.YieldFrom)) for one in ast.walk(node)):
                 kinds["generator"].add(node.name)
-                times.append(node.name)
             elif words in (["property"], ["classmethod"]):
                 kinds[words[0]].add(node.name)
             elif isinstance(file.above[node], ast.ClassDef) and not words:
@@ -325,8 +332,9 @@ def shared_names(all_files):
         kinds["class value"] |= {node.targets[0].id for node in file.each(ast.Assign)
                                  if isinstance(file.above[node], ast.ClassDef)}
     faults = [f"{name} is a {one} and a {other}" for one, other in BESIDE for name in sorted(kinds[one] & kinds[other])]
+    # Two generators with one name are asked for by the document: the walks of runners and nests.
     return faults + [f"{name} is a generator and something else" for name in sorted(kinds["generator"])
-                     if times.count(name) > 1 or name in kinds["method"]]
+                     if times.count(name) > 0 or name in kinds["method"]]
 
 
 def circles():

@@ -33,6 +33,29 @@ STAGE_2 = """
 True
 """
 
+STAGE_7 = """
+>>> from anyshape.alike import alike
+>>> from anyshape.programs import Program
+>>> from anyshape.sizes import Size
+>>> n, m = Size.of(n=1), Size.of(m=1)
+>>> both = [("x", (n, m))]
+>>> one = Program(both, [("s", "sum", "x", (0, 1))])
+>>> other = Program(both, [("y", "permute", "x", (1, 0)), ("z", "turn", "y", 1), ("s", "sum", "z", (0, 1))])
+>>> alike(one, other)
+Alike([])
+"""
+
+STAGE_8 = """
+>>> from anyshape.memory import nest_of, view_of
+>>> from anyshape.programs import Program
+>>> from anyshape.sizes import Size
+>>> n, m = Size.of(n=1), Size.of(m=1)
+>>> program = Program([("x", (n, m))], [("y", "permute", "x", (1, 0)), ("z", "turn", "y", 1)])
+>>> view = view_of(program)
+>>> [view.steps, view.number((1, 0), {"n": 3, "m": 4}), len(nest_of(program))]
+[((1, Size('1')), (-1, Size('m'))), 9, 2]
+"""
+
 
 class TestExamples(unittest.TestCase):
 
@@ -47,6 +70,12 @@ class TestExamples(unittest.TestCase):
 
     def test_stage_2(self):
         self.check(STAGE_2)
+
+    def test_stage_7(self):
+        self.check(STAGE_7)
+
+    def test_stage_8(self):
+        self.check(STAGE_8)
 
     def test_readme(self):
         blocks = re.findall("```\n(>>> .*?)```", README.read_text(encoding="utf-8"), re.DOTALL)

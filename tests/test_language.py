@@ -28,6 +28,10 @@ LISTED = {
              "Row": "digits __len__ __iter__ total cuts place melted cut_at __eq__ __repr__"},
     "places": {"Leaf": "source row tops bound place __eq__", "Crossed": "__init__ is_yes __eq__ __repr__"},
     "bits": {"BitLeaf": "source wires ones bound wire place __eq__"},
+    "alike": {name: "__init__ is_yes __eq__ __repr__" for name in ("Alike", "Unlike", "Stopped")},
+    "memory": {**{name: "__init__ is_yes __eq__ __repr__" for name in ("Bent", "NoNest", "OtherSize", "Overwritten")},
+               **{name: "is_yes __eq__ __repr__" for name in ("NotSingle", "HasWord", "InPlace")},
+               "View": "__init__ is_yes number __eq__ __repr__", "Nest": "__init__ is_yes walk __len__ __eq__ __repr__"},
 }
 PROPERTIES = ("is_whole top bottom depth one other result is_yes program numbers failing radix factor total source row tops bound wires"
               " ones").split()
@@ -49,6 +53,12 @@ FUNCTIONS = {
                "leaves": "(program, name=None)", "term_at": "(program, numbers, index, name=None)"},
     "bits": {"length_of": "(size, point)", "lengths_at": "(program, point, name=None)", "bit_tree": "(program, point, name=None)"},
     "bitruns": {"normal_bits": "(program, point, name=None)", "parting_at": "(one, other, point)"},
+    "nodes": {"word_crossing": "(program, name=None)", "word_digits": "(program, name=None)"}, "normal": {"normal_tree": "(program, name=None)"},
+    "alike": {"Alike": "(reasons)", "Unlike": "(point, what, where)", "Stopped": "(which, answer)", "alike": "(one, other)", "telling_point": "(one, other)"},
+    "papers": {"is_answer": "(one, other, value)", "lean_answer": "(one, other, answer)"},
+    "memory": {"view_of": "(program, name=None)", "nest_of": "(program, name=None)", "in_place": "(program, source, name=None)", "is_view": "(program, value, name=None)",
+               "is_nest": "(program, value, name=None)", "Bent": "(axis, point, bit)", "View": "(source, steps, start)", "NoNest": "(one, other, points)", "NotSingle": "()",
+               "HasWord": "()", "InPlace": "()", "Nest": "(loops, starts)", "OtherSize": "(point)", "Overwritten": "(point, leaf, bit)"},
     "sizes": {"Size": "(exponents=None)"}, "goals": {"Both": "(*goals)", "Either": "(*goals)"},
     "facts": {"Divides": "(one, other)", "Equals": "(one, other)"}, "cones": {"Cone": "(facts, *, names=())"},
 }
@@ -59,7 +69,7 @@ METHODS = [("runner.Runner", "shape", "(self, name=None)"), ("runner.Runner", "c
            ("programs.Program", "only", "(self, name=None)"), ("programs.Program", "line_of", "(self, name=None)"),
            ("rows.Row", "place", "(self, index, numbers)"), ("rows.Row", "melted", "(self, facts)"), ("rows.Row", "cut_at", "(self, size, facts)"),
            ("places.Leaf", "place", "(self, index, numbers, inner=())"), ("bits.BitLeaf", "place", "(self, runs, inner=())"),
-           ("bits.BitLeaf", "wire", "(self, position)")]
+           ("bits.BitLeaf", "wire", "(self, position)"), ("memory.View", "number", "(self, position, numbers)"), ("memory.Nest", "walk", "(self, numbers)")]
 BAD = {
     "x = any(y for y in [])\n": "GeneratorExp", "def f(n):\n    return 2 ** n\n": "exponent", "x = 1 / 2\n": "Div",
     "def f(list):\n    return 1\n": "variable list", "def f():\n    y = zip([], [])\n": "zip is not",
@@ -72,6 +82,7 @@ BAD = {
     "def f(box):\n    for box.other in [1]:\n        return\n\n\nclass A:\n    @property\n    def other(self):\n        return 1\n":
         "other is assigned",
     "class A:\n    def n(self):\n        return 1\n\n    @n.setter\n    def n(self, value):\n        pass\n": "a decorator",
+    "def f(x):\n    return zip(*sorted(x))\n": "a star over", "def f(x):\n    return max(*x.rows, *[y for y in x])\n": "a star over",
     "def f(x):\n    return x is 1.5\n": "is beside", "def f():\n    global x\n    x = 1\n": "statement Global",
 }
 
@@ -142,7 +153,7 @@ class TestInterface(unittest.TestCase):
             for name, parameters in functions.items():
                 made = getattr(importlib.import_module(f"anyshape.{module}"), name)
                 self.assertEqual((made.__module__, str(inspect.signature(made))), (f"anyshape.{module}", parameters))
-        for module, name in (("numbers", "primes"), ("places", "leaves"), ("runner", "Runner.walk")):
+        for module, name in (("numbers", "primes"), ("places", "leaves"), ("runner", "Runner.walk"), ("memory", "Nest.walk")):
             made = importlib.import_module(f"anyshape.{module}")
             for part in name.split("."):
                 made = getattr(made, part)
