@@ -34,7 +34,7 @@ class Scales:
         scale, *parts = amounts
         many = len(self._columns)
         rest = parts[many:] + [scale * row[name] for name in further]
-        return lessened(scale, self._weights(parts[:many]), self._names + further, rest), None
+        return lessened(scale, joined_weights(self._is_exact, parts[:many]), self._names + further, rest), None
 
     def finds_whole(self, size):
         """Whether the Size is always an integer."""
@@ -55,17 +55,18 @@ class Scales:
         """Whether the Size is always 1."""
         return self.equals(size, Size())
 
-    def _weights(self, parts):
-        """The weights of the facts, from the amounts of the columns."""
-        weights = []
-        backward = len(self._is_exact)
-        for part, is_exact in zip(parts, self._is_exact):
-            if is_exact:
-                weights.append(part - parts[backward])
-                backward = backward + 1
-            else:
-                weights.append(part)
-        return weights
+
+def joined_weights(is_exact, parts):
+    """The weights of facts, from the amounts of their rows and, behind these, of the opposites of the exact ones."""
+    weights = []
+    backward = len(is_exact)
+    for part, is_one_exact in zip(parts, is_exact):
+        if is_one_exact:
+            weights.append(part - parts[backward])
+            backward = backward + 1
+        else:
+            weights.append(part)
+    return weights
 
 
 def lessened(scale, weights, names, rest):

@@ -259,7 +259,8 @@ def calls(file):
         if not (isinstance(node.exc, ast.Call) and isinstance(node.exc.func, ast.Name)):
             yield node.lineno, "an error that is not created on the spot"
     for node in file.each(ast.ExceptHandler):
-        if not isinstance(node.type, ast.Name) or node.type.id in ERRORS - {"KeyError", "ZeroDivisionError"}:
+        named = node.type.elts if isinstance(node.type, ast.Tuple) else [node.type]
+        if not all(isinstance(one, ast.Name) and one.id not in ERRORS - {"KeyError", "ZeroDivisionError"} for one in named):
             yield node.lineno, "an error that is not to be caught here"
 
 

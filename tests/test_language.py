@@ -32,9 +32,12 @@ LISTED = {
     "memory": {**{name: "__init__ is_yes __eq__ __repr__" for name in ("Bent", "NoNest", "OtherSize", "Overwritten")},
                **{name: "is_yes __eq__ __repr__" for name in ("NotSingle", "HasWord", "InPlace")},
                "View": "__init__ is_yes number __eq__ __repr__", "Nest": "__init__ is_yes walk __len__ __eq__ __repr__"},
+    "most": {name: "__init__ is_yes __eq__ __repr__" for name in ("Covered", "Above", "NeverGreater", "Greater")},
+    "book": {"Book": "__init__ put drop learn forget undo facts names program_named standing classes deeds __contains__ __len__ __eq__"},
+    "desk": {"Desk": "__init__ do do_all tried log book"},
 }
 PROPERTIES = ("is_whole top bottom depth one other result is_yes program numbers failing radix factor total source row tops bound wires"
-              " ones").split()
+              " ones deeds").split()
 FUNCTIONS = {
     "numbers": {"is_name": "(value)", "is_numbers": "(value)", "is_point": "(value)", "primes": "(many)",
                 "numbers_of": "(points, *names)"},
@@ -59,6 +62,11 @@ FUNCTIONS = {
     "memory": {"view_of": "(program, name=None)", "nest_of": "(program, name=None)", "in_place": "(program, source, name=None)", "is_view": "(program, value, name=None)",
                "is_nest": "(program, value, name=None)", "Bent": "(axis, point, bit)", "View": "(source, steps, start)", "NoNest": "(one, other, points)", "NotSingle": "()",
                "HasWord": "()", "InPlace": "()", "Nest": "(loops, starts)", "OtherSize": "(point)", "Overwritten": "(point, leaf, bit)"},
+    "most": {"cover": "(size, others, facts=())", "is_cover": "(size, others, value, facts=())", "never_greater": "(one, other)", "Covered": "(counts, reason)", "Above": "(point)",
+             "NeverGreater": "(covers)", "Greater": "(name, point)"},
+    "texts": {"program_text": "(program)", "book_text": "(book)", "read_program": "(text)", "read_book": "(text)", "read_fact": "(text)", "read_goal": "(text)"},
+    "book": {"Book": "(facts=())"}, "desk": {"Desk": "()"},
+    "judge": {"run_certificate": "(program)", "is_run_certificate": "(program, value)", "is_question": "(value)", "answer_to": "(question)", "is_right": "(question, value)"},
     "sizes": {"Size": "(exponents=None)"}, "goals": {"Both": "(*goals)", "Either": "(*goals)"},
     "facts": {"Divides": "(one, other)", "Equals": "(one, other)"}, "cones": {"Cone": "(facts, *, names=())"},
 }
@@ -69,7 +77,10 @@ METHODS = [("runner.Runner", "shape", "(self, name=None)"), ("runner.Runner", "c
            ("programs.Program", "only", "(self, name=None)"), ("programs.Program", "line_of", "(self, name=None)"),
            ("rows.Row", "place", "(self, index, numbers)"), ("rows.Row", "melted", "(self, facts)"), ("rows.Row", "cut_at", "(self, size, facts)"),
            ("places.Leaf", "place", "(self, index, numbers, inner=())"), ("bits.BitLeaf", "place", "(self, runs, inner=())"),
-           ("bits.BitLeaf", "wire", "(self, position)"), ("memory.View", "number", "(self, position, numbers)"), ("memory.Nest", "walk", "(self, numbers)")]
+           ("bits.BitLeaf", "wire", "(self, position)"), ("memory.View", "number", "(self, position, numbers)"), ("memory.Nest", "walk", "(self, numbers)"),
+           ("book.Book", "put", "(self, name, program)"), ("book.Book", "drop", "(self, name)"), ("book.Book", "learn", "(self, *facts)"), ("book.Book", "forget", "(self, fact)"),
+           ("book.Book", "program_named", "(self, name)"), ("book.Book", "standing", "(self, name)"), ("desk.Desk", "do", "(self, command)"), ("desk.Desk", "do_all", "(self, commands)"),
+           ("desk.Desk", "tried", "(self, commands)")]
 BAD = {
     "x = any(y for y in [])\n": "GeneratorExp", "def f(n):\n    return 2 ** n\n": "exponent", "x = 1 / 2\n": "Div",
     "def f(list):\n    return 1\n": "variable list", "def f():\n    y = zip([], [])\n": "zip is not",
