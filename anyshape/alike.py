@@ -20,7 +20,12 @@ class Alike(Answer):
     """The programs are alike, for reasons: tuples of a fact and a why that it follows from the joint facts."""
 
     def __init__(self, reasons):
-        self.reasons = copied(reasons)
+        self._reasons = copied(reasons)
+
+    @property
+    def reasons(self):
+        """The list of the reasons."""
+        return copied(self._reasons)
 
     @property
     def is_yes(self):
@@ -29,22 +34,27 @@ class Alike(Answer):
 
     def again(self):
         """An equal answer that shares no list and no dict with this one."""
-        return Alike(self.reasons)
+        return Alike(self._reasons)
 
     def __eq__(self, other):
-        return isinstance(other, Alike) and self.reasons == other.reasons
+        return isinstance(other, Alike) and self._reasons == other._reasons
 
     def __repr__(self):
-        return f"Alike({self.reasons!r})"
+        return f"Alike({self._reasons!r})"
 
 
 class Unlike(Answer):
     """The programs are unlike: at a point their results part in this way."""
 
     def __init__(self, point, what, where):
-        self.point = copied(point)
+        self._point = copied(point)
         self.what = copied(what)
         self.where = copied(where)
+
+    @property
+    def point(self):
+        """The point, a dict."""
+        return copied(self._point)
 
     @property
     def is_yes(self):
@@ -53,14 +63,14 @@ class Unlike(Answer):
 
     def again(self):
         """An equal answer that shares no list and no dict with this one."""
-        return Unlike(self.point, self.what, self.where)
+        return Unlike(self._point, self.what, self.where)
 
     def __eq__(self, other):
-        return (isinstance(other, Unlike) and self.point == other.point
+        return (isinstance(other, Unlike) and self._point == other._point
                 and self.what == other.what and self.where == other.where)
 
     def __repr__(self):
-        return f"Unlike({self.point!r}, {self.what!r}, {self.where!r})"
+        return f"Unlike({self._point!r}, {self.what!r}, {self.where!r})"
 
 
 class Stopped(Answer):
@@ -68,7 +78,12 @@ class Stopped(Answer):
 
     def __init__(self, which, answer):
         self.which = copied(which)
-        self.answer = copied(answer)
+        self._answer = copied(answer)
+
+    @property
+    def answer(self):
+        """The Fails or the Crossed at which it stopped."""
+        return copied(self._answer)
 
     @property
     def is_yes(self):
@@ -77,13 +92,13 @@ class Stopped(Answer):
 
     def again(self):
         """An equal answer that shares no list and no dict with this one."""
-        return Stopped(self.which, self.answer)
+        return Stopped(self.which, self._answer)
 
     def __eq__(self, other):
-        return isinstance(other, Stopped) and self.which == other.which and self.answer == other.answer
+        return isinstance(other, Stopped) and self.which == other.which and self._answer == other._answer
 
     def __repr__(self):
-        return f"Stopped({self.which!r}, {self.answer!r})"
+        return f"Stopped({self.which!r}, {self._answer!r})"
 
 
 def alike(one, other):
@@ -116,6 +131,9 @@ def telling_point(one, other):
 
 def _lean_positions(one, other, facts):
     """The list of the positions of the joint facts that are left if each one is left out that is not needed."""
+    # Mostly no fact at all is needed, which is seen at once.
+    if are_alike_for(SizeRows([]), one, other):
+        return []
     left = list(range(len(facts)))
     for position in range(len(facts) - 1, -1, -1):
         others = [at for at in left if at != position]

@@ -5,7 +5,7 @@ The sizes along the lines are those that the certificate itself chooses; so each
 
 from anyshape.facts import Equals
 from anyshape.kinds import is_integer, is_list
-from anyshape.measures import Measure
+from anyshape.measures import AsWritten
 from anyshape.proofs import is_tuple_of, is_why_for, why_for
 from anyshape.scales import Scales
 from anyshape.shaping import shapes_by
@@ -14,7 +14,7 @@ from anyshape.sizes import Size
 WAYS = (0, 1, 2)
 
 
-class Proving(Measure):
+class Proving(AsWritten):
     """The values are Sizes; of all conditions that are looked at, what proves them is kept."""
 
     def __init__(self, facts):
@@ -24,18 +24,6 @@ class Proving(Measure):
     def found(self):
         """The list of what was found so far."""
         return list(self._found)
-
-    def measured(self, size):
-        """The value of a Size."""
-        return size
-
-    def times(self, values):
-        """The value of the product of some sizes."""
-        return Size.product(*values)
-
-    def is_one(self, value):
-        """Whether a value is the size 1, as it is written."""
-        return len(value) == 0
 
     def are_same(self, one, other):
         """Whether a proof is found that two sizes are equal."""
@@ -53,7 +41,7 @@ class Proving(Measure):
         return None
 
 
-class Checking(Measure):
+class Checking(AsWritten):
     """The values are Sizes; the proofs of the conditions that are looked at are those of a list."""
 
     def __init__(self, facts, proofs):
@@ -63,18 +51,6 @@ class Checking(Measure):
     def left(self):
         """The list of the proofs that were not asked for."""
         return list(self._left)
-
-    def measured(self, size):
-        """The value of a Size."""
-        return size
-
-    def times(self, values):
-        """The value of the product of some sizes."""
-        return Size.product(*values)
-
-    def is_one(self, value):
-        """Whether a value is the size 1, as it is written."""
-        return len(value) == 0
 
     def are_same(self, one, other):
         """Whether the next proof shows that two sizes are equal."""

@@ -16,6 +16,22 @@ class Measure:
         return 2 if self.is_one(other) else None
 
 
+class AsWritten(Measure):
+    """The base of the measures of which the values are Sizes that the lines write, whatever these are equal to."""
+
+    def measured(self, size):
+        """The value of a Size."""
+        return size
+
+    def times(self, values):
+        """The value of the product of some sizes."""
+        return Size.product(*values)
+
+    def is_one(self, value):
+        """Whether a value is the size 1, as it is written."""
+        return len(value) == 0
+
+
 class BySizes(Measure):
     """The values are Sizes; what is said of them is what is always so."""
 

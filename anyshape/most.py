@@ -19,7 +19,12 @@ class Covered(Answer):
 
     def __init__(self, counts, reason):
         self.counts = copied(counts)
-        self.reason = copied(reason)
+        self._reason = copied(reason)
+
+    @property
+    def reason(self):
+        """The why that the power divides the product."""
+        return copied(self._reason)
 
     @property
     def is_yes(self):
@@ -28,20 +33,25 @@ class Covered(Answer):
 
     def again(self):
         """An equal answer that shares no list and no dict with this one."""
-        return Covered(self.counts, self.reason)
+        return Covered(self.counts, self._reason)
 
     def __eq__(self, other):
-        return isinstance(other, Covered) and self.counts == other.counts and self.reason == other.reason
+        return isinstance(other, Covered) and self.counts == other.counts and self._reason == other._reason
 
     def __repr__(self):
-        return f"Covered({self.counts!r}, {self.reason!r})"
+        return f"Covered({self.counts!r}, {self._reason!r})"
 
 
 class Above(Answer):
     """At a point the size is greater than each of the others."""
 
     def __init__(self, point):
-        self.point = copied(point)
+        self._point = copied(point)
+
+    @property
+    def point(self):
+        """The point, a dict."""
+        return copied(self._point)
 
     @property
     def is_yes(self):
@@ -50,20 +60,25 @@ class Above(Answer):
 
     def again(self):
         """An equal answer that shares no list and no dict with this one."""
-        return Above(self.point)
+        return Above(self._point)
 
     def __eq__(self, other):
-        return isinstance(other, Above) and self.point == other.point
+        return isinstance(other, Above) and self._point == other._point
 
     def __repr__(self):
-        return f"Above({self.point!r})"
+        return f"Above({self._point!r})"
 
 
 class NeverGreater(Answer):
     """Each array of the first program is covered by the arrays of the second one."""
 
     def __init__(self, covers):
-        self.covers = copied(covers)
+        self._covers = copied(covers)
+
+    @property
+    def covers(self):
+        """The tuple with the Covered for each array of the first program."""
+        return copied(self._covers)
 
     @property
     def is_yes(self):
@@ -72,13 +87,13 @@ class NeverGreater(Answer):
 
     def again(self):
         """An equal answer that shares no list and no dict with this one."""
-        return NeverGreater(self.covers)
+        return NeverGreater(self._covers)
 
     def __eq__(self, other):
-        return isinstance(other, NeverGreater) and self.covers == other.covers
+        return isinstance(other, NeverGreater) and self._covers == other._covers
 
     def __repr__(self):
-        return f"NeverGreater({self.covers!r})"
+        return f"NeverGreater({self._covers!r})"
 
 
 class Greater(Answer):
@@ -86,7 +101,12 @@ class Greater(Answer):
 
     def __init__(self, name, point):
         self.name = copied(name)
-        self.point = copied(point)
+        self._point = copied(point)
+
+    @property
+    def point(self):
+        """The point, a dict."""
+        return copied(self._point)
 
     @property
     def is_yes(self):
@@ -95,13 +115,13 @@ class Greater(Answer):
 
     def again(self):
         """An equal answer that shares no list and no dict with this one."""
-        return Greater(self.name, self.point)
+        return Greater(self.name, self._point)
 
     def __eq__(self, other):
-        return isinstance(other, Greater) and self.name == other.name and self.point == other.point
+        return isinstance(other, Greater) and self.name == other.name and self._point == other._point
 
     def __repr__(self):
-        return f"Greater({self.name!r}, {self.point!r})"
+        return f"Greater({self.name!r}, {self._point!r})"
 
 
 def cover(size, others, facts=()):

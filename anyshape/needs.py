@@ -3,7 +3,7 @@
 from anyshape.cases import is_weakest_of, weakest_of
 from anyshape.facts import Equals
 from anyshape.failures import TooMany
-from anyshape.measures import Measure
+from anyshape.measures import AsWritten
 from anyshape.shaping import shapes_by
 from anyshape.sizes import Size
 
@@ -11,7 +11,7 @@ MOST_PAIRS = 4
 WAYS = (0, 1, 2)
 
 
-class Supposing(Measure):
+class Supposing(AsWritten):
     """The values are Sizes; all conditions are supposed to hold, those of pairs in given ways."""
 
     def __init__(self, ways):
@@ -22,22 +22,10 @@ class Supposing(Measure):
         """The tuple of the facts that were supposed so far."""
         return tuple(self._supposed)
 
-    def measured(self, size):
-        """The value of a Size."""
-        return size
-
-    def times(self, values):
-        """The value of the product of some sizes."""
-        return Size.product(*values)
-
     def are_same(self, one, other):
         """True, as this is supposed."""
         self._supposed.append(Equals(one, other))
         return True
-
-    def is_one(self, value):
-        """Whether a value is the size 1, whatever is supposed."""
-        return len(value) == 0
 
     def way(self, one, other):
         """The next one of the given ways."""

@@ -46,7 +46,12 @@ class Fails(Answer):
     def __init__(self, line, axis, points):
         self.line = copied(line)
         self.axis = copied(axis)
-        self.points = copied(points)
+        self._points = copied(points)
+
+    @property
+    def points(self):
+        """The list of points."""
+        return copied(self._points)
 
     @property
     def is_yes(self):
@@ -55,14 +60,14 @@ class Fails(Answer):
 
     def again(self):
         """An equal answer that shares no list and no dict with this one."""
-        return Fails(self.line, self.axis, self.points)
+        return Fails(self.line, self.axis, self._points)
 
     def __eq__(self, other):
         return (isinstance(other, Fails) and self.line == other.line
-                and self.axis == other.axis and self.points == other.points)
+                and self.axis == other.axis and self._points == other._points)
 
     def __repr__(self):
-        return f"Fails({self.line!r}, {self.axis!r}, {self.points!r})"
+        return f"Fails({self.line!r}, {self.axis!r}, {self._points!r})"
 
 
 def copied(value):
