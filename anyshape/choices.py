@@ -12,18 +12,16 @@ FEW = (0, 1, 2, 3)
 
 
 def telling_choice(facts, names, totals, finds):
-    """What a function finds at a point that keeps facts, a pair of the point and this, or None if it finds nothing.
+    """A pair: a small point that keeps facts, at which a function finds something, and what it finds there.
 
     The names are sorted, and have those of the facts among them. The function takes a point and returns None where it
-    finds nothing. It may find something if Sizes are not equal whose quotient has an exponent, at each point, between
-    the sum of those of the totals and its negative. The point that is told is small.
+    finds nothing. It finds something wherever certain Sizes are different that are not always equal, the quotients of
+    which have exponents, at each point, between the sum of those of the totals and its negative.
     """
     spanning = spanning_points(facts, names)
     multiples = _far_multiples(spanning, totals)
     best = _summed(spanning, multiples)
     found = finds(best)
-    if found is None:
-        return None
     for position in range(len(multiples)):
         for few in FEW:
             tried = multiples[:position] + [few] + multiples[position + 1:]

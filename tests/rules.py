@@ -93,8 +93,10 @@ def words(file):
 
 def module_level(file):
     """L2, L3, L15, L16: what stands at module level."""
-    bound = set()
+    bound, made = set(), set()
     for place, node in enumerate(file.tree.body):
+        if isinstance(node, ast.FunctionDef):
+            made.add(node.name)
         names = [getattr(node, "name", None)]
         if isinstance(node, ast.ImportFrom):
             yield from imports(node)
@@ -103,6 +105,8 @@ def module_level(file):
             names = [target.id for target in node.targets if isinstance(target, ast.Name)]
             if len(names) != 1 or len(node.targets) != 1 or not is_plain(node.value):
                 yield node.lineno, "not a plain value"
+            if isinstance(node.value, ast.Dict) and any(isinstance(one, ast.Name) and one.id not in made for one in node.value.values):
+                yield node.lineno, "a table of what is not a function above it"
         elif not isinstance(node, (ast.FunctionDef, ast.ClassDef)) and not (place == 0 and isinstance(node, ast.Expr)):
             yield node.lineno, "not allowed at module level"
         for name in names:

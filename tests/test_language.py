@@ -93,7 +93,7 @@ BAD = {
     "def f(box):\n    for box.other in [1]:\n        return\n\n\nclass A:\n    @property\n    def other(self):\n        return 1\n":
         "other is assigned",
     "class A:\n    def n(self):\n        return 1\n\n    @n.setter\n    def n(self, value):\n        pass\n": "a decorator",
-    "def f(x):\n    return zip(*sorted(x))\n": "a star over", "def f(x):\n    return max(*x.rows, *[y for y in x])\n": "a star over",
+    "from anyshape.shapes import runs\nTABLE = {'a': runs}\n": "not a function above", "def f(x):\n    return zip(*sorted(x))\n": "a star over", "def f(x):\n    return max(*x.rows, *[y for y in x])\n": "a star over",
     "def f(x):\n    return x is 1.5\n": "is beside", "def f():\n    global x\n    x = 1\n": "statement Global",
 }
 

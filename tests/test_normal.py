@@ -1,5 +1,6 @@
 """Normal trees of arrays at all sizes."""
 
+import itertools
 import unittest
 
 from anyshape.bitruns import normal_bits
@@ -7,7 +8,9 @@ from anyshape.failures import DoesNotRun, IsCrossed, UnknownArray
 from anyshape.follow import Always
 from anyshape.nodes import word_crossing
 from anyshape.normal import normal_tree
+from anyshape.normalizing import are_same_trees
 from anyshape.rows import Row
+from anyshape.scales import Scales
 from anyshape.sizes import Size
 from makers import Maker
 from sums import facts, size
@@ -200,6 +203,36 @@ class TestChanges(unittest.TestCase):
             if word_crossing(made) is None:
                 point = {"n": 100, "m": 107, "k": 10301}
                 self.assertEqual(at_point(normal_tree(made), point), normal_bits(made, point))
+
+
+class TestSame(unittest.TestCase):
+
+    def trees(self):
+        """Trees of which no two are the same, without facts."""
+        inner = ("in", "x", Row(), ())
+        leaves = [leaf(""), leaf("", "y"), leaf("n:1"), leaf("m:1"), leaf("n:m"), leaf("-n:1"), leaf("n"), leaf("n:1 m"), leaf("n:1 m n:m"), leaf("n m:1"), leaf("n*m:1"), leaf("", tops=[(ONE, N)]), leaf("", tops=[(ONE, M)]),
+                  leaf("", tops=[(N, N * M)]), leaf("", tops=[(ONE, N), (M * N, M * N * N)])]
+        letters = [("let", "f", (inner,)), ("let", "g", (inner,)), ("let", "f", (inner, inner)), ("let", "f", (leaf("n:1"), inner)), ("let", "f", (inner, leaf("n:1"))), ("let", "sum", (inner,))]
+        words = [word(name, text, inner, count) for name, text, count in (
+            ("sum", "n 1", "1"), ("greatest", "n 1", "1"), ("least", "n 1", "1"), ("sum", "m 1", "1"), ("sum", "n m", "1"), ("sum", "n -1", "1"), ("sum", "n 1", "m"), ("sum", "n 1", "n"), ("sum", "", "n"), ("sum", "n 1,m n*n", "1"),
+            ("sum", "n 1,m k", "1"), ("sum", "n 1,m k,k q", "1"))]
+        words += [word("sum", text, ("let", "f", (inner, inner))) for text in ("n 1 1", "n 1 .", "n . 1", "n 1 -1", "n 1 m", "n 1 .,m . 1", "n 1 .,m . n", "n 1 .,m n .", "n 1 1,m . n")]
+        words.append(word("sum", "n 1", leaf("m:n")))
+        return leaves + letters + words
+
+    def test_trees_that_differ_in_one_thing(self):
+        scales = Scales([])
+        for (place, one), (other_place, other) in itertools.product(enumerate(self.trees()), repeat=2):
+            self.assertIs(are_same_trees(scales, one, other), place == other_place, (one, other))
+
+    def test_digits_in_any_order_and_equal_sizes(self):
+        one, other = word("sum", "n 1,m k,k q", leaf("")), word("sum", "k q,n 1,m k", leaf(""))
+        self.assertTrue(are_same_trees(Scales([]), one, other))
+        for text, further in ((leaf("n:1", tops=[(K, K * N)]), leaf("m:1", tops=[(K, K * M)])), (leaf("-q:n"), leaf("-q:m")), (word("sum", "n q", leaf(""), "n"), word("sum", "m q", leaf(""), "m")),
+                              (word("sum", "q n,k -1", leaf("")), word("sum", "k -1,q m", leaf("")))):
+            self.assertTrue(are_same_trees(Scales(facts("n = m")), text, further))
+            for given in ((), ("n | m",), ("m | n",)):
+                self.assertFalse(are_same_trees(Scales(facts(*given)), text, further))
 
 
 class TestErrors(unittest.TestCase):

@@ -92,6 +92,14 @@ class TestAlike(unittest.TestCase):
         self.assertFalse(is_answer(one, other, Alike([first])))
         self.assertFalse(is_answer(one, other, Alike([])))
 
+    def test_the_same_inputs_though_no_cell_tells_them_apart(self):
+        one, other = program({"x": "n"}, ("a", "pick", "x", 0), given=("n = m",)), program({"x": "m"}, ("a", "pick", "x", 0))
+        told = reason(one.facts(), "n = m")
+        self.assertEqual(alike(one, other), Alike([told]))
+        self.assertTrue(is_answer(one, other, Alike([told])))
+        self.assertFalse(is_answer(one, other, Alike([])))
+        self.assertEqual(lean_answer(one, other, Alike([told, told])), Alike([told]))
+
     def test_programs_that_are_not_alike(self):
         other = program(X, ("a", "turn", "x", 0))
         self.assertFalse(is_answer(program(X), other, Alike([])))
