@@ -5,7 +5,7 @@ from anyshape.book import Book, book_like
 from anyshape.commands import read_command
 from anyshape.decimals import decimal_text
 from anyshape.errors import AnyshapeError, InvalidCommand
-from anyshape.failures import CommandFailed, LimitError, MissingError, StateError, UnknownName
+from anyshape.failures import CommandFailed, LimitError, MissingError, StateError
 from anyshape.follow import follows
 from anyshape.kinds import is_list
 from anyshape.shapes import runs, shape, shape_at
@@ -24,10 +24,6 @@ class Desk:
     def do(self, command):
         """Perform a command; the answer."""
         word, names, rest = read_command(command)
-        if word != "put":
-            for name in names:
-                if name not in self._book:
-                    raise UnknownName(name)
         action = ACTIONS[word]
         answer = action(self._book, names, rest)
         self._log.append(command)

@@ -10,9 +10,9 @@ from anyshape.sizes import Size
 
 
 def steps_along(scales, digits, sizes):
-    """The list of the steps of a row along axes or loops of these sizes, the lowest first; None if it is bent there.
+    """The list of the steps of a row along axes or loops of these whole sizes, the lowest first; None if it is bent.
 
-    Where a size is 1, the step is None.
+    Where a size is 1, the step is None. A digit that the sizes do not fill is never ended by further ones.
     """
     steps = []
     left = list(digits)
@@ -28,8 +28,6 @@ def steps_along(scales, digits, sizes):
         if scales.equals(inside, left[0].radix):
             left.pop(0)
             inside = Size()
-        elif not scales.divides(inside, left[0].radix):
-            return None
     return steps if len(left) == 0 else None
 
 

@@ -34,22 +34,23 @@ def line_text(line):
     """The line of text of a line of a program, without its line feed."""
     words = [line[0], "=", line[1], line[2]]
     for part in line[3:]:
-        words.extend([_word_text(one) for one in (part if isinstance(part, tuple) else (part,))])
+        words.extend([str(one) for one in (part if isinstance(part, tuple) else (part,))])
     return " ".join(words)
 
 
 def read_part(text):
-    """The part of a program that a line of text tells, right or not, or None if there is none."""
+    """The part of a program that a line of text tells, or None if there is none.
+
+    An input or a line may have None in place of what cannot be read, and is not right then.
+    """
     words = text.split(" ")
     if len(words) > 1 and words[1] == "=":
-        line = _read_line(words)
-        return None if line is None else ("line", line)
+        return "line", _read_line(words)
     if words[0] == "fact":
         fact = fact_or_none(text.removeprefix("fact "))
         return None if fact is None else ("fact", fact)
     if words[0] == "input" and len(words) > 1:
-        axes = [size_or_none(word) for word in words[2:]]
-        return None if any([size is None for size in axes]) else ("input", (words[1], tuple(axes)))
+        return "input", (words[1], tuple([size_or_none(word) for word in words[2:]]))
     return None
 
 
@@ -80,13 +81,8 @@ def number_or_none(text):
     return number if number is not None and number >= 0 and decimal_text(number) == text else None
 
 
-def _word_text(value):
-    """The word for a number, a size or a name."""
-    return decimal_text(value) if isinstance(value, int) else str(value)
-
-
 def _read_line(words):
-    """The line of a program with these words, right or not, or None."""
+    """The line of a program with these words, with None in place of those that cannot be read, or None."""
     if len(words) < 4 or words[2] not in FORMS:
         return None
     made, _, word, read, *rest = words
@@ -94,7 +90,7 @@ def _read_line(words):
     for letter in FORMS[word]:
         many = len(rest) if letter.isupper() else min(len(rest), 1)
         values = [_read_word(letter, one) for one in rest[:many]]
-        if any([value is None for value in values]) or (letter.islower() and many == 0):
+        if letter.islower() and many == 0:
             return None
         parts.append(tuple(values) if letter.isupper() else values[0])
         rest = rest[many:]

@@ -139,7 +139,7 @@ class TestCommands(unittest.TestCase):
                  "forget", "forget n", "forget both()", "forget  n | m", "forget n | m*k", "undo ", "undo p", "undo\n", " undo", "Undo", "undo 1", "runs", "runs P", "runs p p", "runs  p", "runs p\n",
                  "shape", "shape ", "shape P", "shape p ", "shape p n", "shape p n=", "shape p n=0", "shape p n=-1", "shape p n=03", "shape p n=+3", "shape p n=3 n=3", "shape p n=3 m=4 n=5",
                  "shape p N=3", "shape p =3", "shape p n=3  m=4", "shape p n=3 ", "shape p n = 3", "shape p n=3,m=4", "shape p n=m", "shape p n=3=3", "shape p n==3", "shape p n=3.0", "shape p n=1e3",
-                 "shape p 3", "shape p q", "shape n=3 p", "shape p n=3 m", "alike", "alike p", "alike p ", "alike p q r", "alike p  q", "alike P q", "alike p q ", "alike p q\n", "follows", "follows ", "follows n",
+                 "shape p 3", "shape P n=3", "shape abcdefghi n=3", "shape p q", "shape n=3 p", "shape p n=3 m", "alike", "alike p", "alike p ", "alike p q r", "alike p  q", "alike P q", "alike p q ", "alike p q\n", "follows", "follows ", "follows n",
                  "follows n | m,", "follows both", "follows both(n | m", "follows  both()", "follows both() ", "follows " + "both(" * 7 + ")" * 7, "classes ", "classes p", " classes", "class", "text", "text P",
                  "text p ", "text p p", "texts p", "log", "book", "help", "quit", "do", "tried", "standing p", "names", "facts", "program p", "undo;", "undo undo", "p", "shape p n=\u0663"]
         for command in words + odd_values() + [0, 1, ["undo"], {"undo": 1}, ("undo",), b"undo", Box()]:

@@ -128,6 +128,9 @@ class TestInPlace(unittest.TestCase):
         self.assertEqual(in_place(program(BOTH, *TWO_WAYS), "x").__class__, Overwritten)
 
     def test_errors(self):
+        with self.assertRaises(UnknownArray) as caught:
+            in_place(program({"x": "n"}), None)
+        self.assertIsNone(caught.exception.name)
         made = program({"x": "n m"}, ("a", "drop", "x", 0), ("b", "turn", "a", 0))
         for value in [None, "a", "b", "w", "", 0, [], {}, ["x"], ("x",), Box()] + odd_values():
             for name in (None, "w", "x"):

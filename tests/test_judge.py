@@ -220,7 +220,7 @@ class TestRight(unittest.TestCase):
                                                                         ["yes", (1, (1, 1), {})], ("yes", (1, (1, 1), {}), 0), ("Yes", (1, (1, 1), {})), (True, (1, (1, 1), {})), (1, (1, (1, 1), {}))])
         self.assertEqual(answer, ("yes", (1, (1, 1), {})))
         question = ("follows", given, fact("k | n"))
-        self.check(question, [("no", [{"k": 3, "n": 0, "zz": 5}]), ("no", [{}, {"k": 1}, {"m": 1, "k": 1}]), ("no", ({"k": 1},))], [("no", [{}]), ("no", []), ("no", [{"m": 1}]), ("no", [{"k": 1}, {"n": 1}]),
+        self.check(question, [("no", [{"k": 3, "n": 0, "zz": 5}]), ("no", [{}, {"k": 1}, {"m": 1, "k": 1}]), ("no", ({"k": 1},))], [("maybe", [{"k": 1}]), ("", [{"k": 1}]), (None, [{"k": 1}]), (False, [{"k": 1}]), (Box(), [{"k": 1}]), ("no", [{}]), ("no", []), ("no", [{"m": 1}]), ("no", [{"k": 1}, {"n": 1}]),
                                                                                                                                 ("yes", [{"k": 1}]), ("no", {"k": 1}), ("yes", (1, (0, 0), {})), ("no", [{"k": True}])])
         self.check(("follows", [], Either()), [("no", []), ("no", [{"q": 1}])], [("yes", ()), ("yes", (0, ()))])
         self.check(("follows", [], Both()), [("yes", ())], [("no", []), ("yes", []), ("yes", (1, (), {}))])
@@ -241,7 +241,7 @@ class TestRight(unittest.TestCase):
                                                                                           Runs(), ("yes", None), [("yes", [(none, none)])]])
         self.assertEqual(answer, ("yes", [(none, none)]))
         made = program(X, ("a", "drop", "x", 1), given=("n | m",))
-        answer = self.check(("runs", made), [("no", Fails(0, 1, [{"n": 2, "m": 2, "q": 0}, {}])), ("no", Fails(0, 1, ({"m": 1},)))], [("no", Fails(0, 1, [{"n": 1}])), ("no", Fails(0, 0, [{"m": 1}])), ("yes", Fails(0, 1, [{"m": 1}])),
+        answer = self.check(("runs", made), [("no", Fails(0, 1, [{"n": 2, "m": 2, "q": 0}, {}])), ("no", Fails(0, 1, ({"m": 1},)))], [("no", Fails(0, 1, [{"n": 1}])), ("no", Fails(0, 0, [{"m": 1}])), ("yes", Fails(0, 1, [{"m": 1}])), ("maybe", Fails(0, 1, [{"m": 1}])), (None, Fails(0, 1, [{"m": 1}])),
                             Fails(0, 1, [{"m": 1}]), ("no", [{"m": 1}]), ("no", Fails(0, 1, [])), ("yes", []), ("no", Fails(False, 1, [{"m": 1}]))])
         self.assertTrue(is_fails(made, answer[1]))
 
@@ -309,7 +309,7 @@ class TestRight(unittest.TestCase):
         made = program(BOTH, *TWO_WAYS)
         pair = [{"n": 1}, {"m": 1}]
         self.check(("nest", made, "e"), [NoNest(N, M, pair), NoNest(M, N, pair), NoNest(N, M, pair * 3 + [{"n": 1, "m": 1}, {"q": 4}]), NoNest(N, M, ({"n": 2, "m": 1, "k": 0}, {"m": 1}))],
-                   [NoNest(N, M, [{"n": 1}]), NoNest(N, M, [{"n": 1}, {"n": 1, "m": 1}]), NoNest(N, M, []), NoNest(N, N, pair), NoNest(N, K, pair), NoNest(N, M * K, pair), NoNest(N, N * M, pair), NoNest("n", "m", pair),
+                   [NoNest(N, M, [{"n": 1}]), NoNest(N, M, [{"n": 1}, {"n": 1, "m": 1}]), NoNest(N, M, []), NoNest(N, N, pair), NoNest(N, K, pair), NoNest(N, M * K, pair), NoNest(N, N * M, pair), NoNest("n", "m", pair), NoNest("n", M, pair), NoNest(N, "m", pair), NoNest(N, None, pair),
                     NoNest(N, M, {"n": 1}), NoNest(N, M, [{"n": 1}, {"m": True}]), NoNest(N, M, None), NoNest(None, None, pair), NoNest(Box(), Box(), pair), NoNest(N, M, Box()), nest_of(made.knowing(*facts("n | m"))), HasWord()])
         known = made.knowing(*facts("n*n | q*m"))
         self.check(("nest", known, None), [NoNest(N, M, [{"m": 1}, {"n": 1, "q": 2}])], [NoNest(N, M, pair)])
@@ -332,7 +332,8 @@ class TestRight(unittest.TestCase):
     def test_overwritten_at_all_points(self):
         x = {"x": "n m", "y": "n m"}
         for lines in ([("a", "turn", "x", 0)], [("a", "permute", "x", (1, 0))], [("a", "permute", "x", (1, 0)), ("b", "cells", "f", ("a",))], [("p", "pick", "x", 0), ("a", "spread", "p", 1, N)],
-                      [("t", "turn", "x", 1), ("a", "cells", "f", ("y", "t"))], [("p", "pick", "x", 0), ("a", "spread", "p", 0, N), ("b", "cells", "f", ("a", "x", "y"))]):
+                      [("t", "turn", "x", 1), ("a", "cells", "f", ("y", "t"))], [("p", "pick", "x", 0), ("a", "spread", "p", 0, N), ("b", "cells", "f", ("a", "x", "y"))],
+                      [("t", "turn", "x", 1), ("u", "turn", "y", 0), ("a", "cells", "f", ("u", "t", "y"))]):
             made = program(x, *lines)
             self.assertIsInstance(in_place(made, "x"), Overwritten)
             for point in points_below("nm", 3):

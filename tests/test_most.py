@@ -40,6 +40,7 @@ class TestAnswers(unittest.TestCase):
             self.assertEqual(made, kind(*parts.values()))
             for name in parts:
                 self.assertNotEqual(made, kind(**{**parts, name: ([9], {"n": 9})}))
+            for name in parts:
                 parts[name][0].append(5)
                 parts[name][1]["n"] = 7
                 self.assertNotEqual(getattr(made, name), parts[name])

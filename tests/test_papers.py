@@ -219,6 +219,8 @@ class TestStopped(unittest.TestCase):
         one = program(X)
         for value in odd_values() + [0, "yes", Runs(), Fails(0, 0, []), Crossed(0, N, M), InPlace(), HasWord(), Alike, [], ("yes", Alike([])), Box()]:
             self.assertIs(is_answer(one, one, value), False)
+            self.assertIs(is_answer(program(X, *CROSSING), one, value), False)
+            self.assertIs(is_answer(program(X, ("a", "drop", "x", 0)), one, value), False)
 
 
 class TestLean(unittest.TestCase):

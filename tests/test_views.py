@@ -45,6 +45,7 @@ class TestAnswers(unittest.TestCase):
             self.assertEqual(made, kind(*parts.values()))
             for name in parts:
                 self.assertNotEqual(made, kind(**{**parts, name: ([9], {"n": 9})}))
+            for name in parts:
                 parts[name][0].append(5)
                 parts[name][1]["n"] = 7
                 self.assertNotEqual(getattr(made, name), parts[name])
@@ -170,6 +171,7 @@ class TestNoViews(unittest.TestCase):
         self.check_bent(program({"x": "n"}, ("a", "spread", "x", 0, M), ("b", "merge", "a", 0, 2)), 0)
         self.check_bent(program({"x": "n m k"}, ("a", "permute", "x", (0, 2, 1)), ("b", "merge", "a", 1, 2)), 1)
         self.check_bent(program({"x": "n m k"}, ("a", "permute", "x", (1, 0, 2)), ("b", "merge", "a", 0, 2)), 0)
+        self.check_bent(program({"x": "n m k"}, ("a", "permute", "x", (1, 0, 2)), ("b", "merge", "a", 0, 2), given=("n^3 | k",)), 0)
 
     def test_axes_that_do_not_meet_the_cuts(self):
         lines = MERGED + [("c", "split", "b", 0, (K, K))]
