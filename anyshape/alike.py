@@ -20,12 +20,7 @@ class Alike(Answer):
     """The programs are alike, for reasons: tuples of a fact and a why that it follows from the joint facts."""
 
     def __init__(self, reasons):
-        self._reasons = copied(reasons)
-
-    @property
-    def reasons(self):
-        """The list of the reasons."""
-        return copied(self._reasons)
+        self.reasons = copied(reasons)
 
     @property
     def is_yes(self):
@@ -34,27 +29,22 @@ class Alike(Answer):
 
     def again(self):
         """An equal answer that shares no list and no dict with this one."""
-        return Alike(self._reasons)
+        return Alike(self.reasons)
 
     def __eq__(self, other):
-        return isinstance(other, Alike) and self._reasons == other._reasons
+        return isinstance(other, Alike) and self.reasons == other.reasons
 
     def __repr__(self):
-        return f"Alike({self._reasons!r})"
+        return f"Alike({self.reasons!r})"
 
 
 class Unlike(Answer):
     """The programs are unlike: at a point their results part in this way."""
 
     def __init__(self, point, what, where):
-        self._point = copied(point)
+        self.point = copied(point)
         self.what = copied(what)
         self.where = copied(where)
-
-    @property
-    def point(self):
-        """The point, a dict."""
-        return copied(self._point)
 
     @property
     def is_yes(self):
@@ -63,14 +53,14 @@ class Unlike(Answer):
 
     def again(self):
         """An equal answer that shares no list and no dict with this one."""
-        return Unlike(self._point, self.what, self.where)
+        return Unlike(self.point, self.what, self.where)
 
     def __eq__(self, other):
-        return (isinstance(other, Unlike) and self._point == other._point
+        return (isinstance(other, Unlike) and self.point == other.point
                 and self.what == other.what and self.where == other.where)
 
     def __repr__(self):
-        return f"Unlike({self._point!r}, {self.what!r}, {self.where!r})"
+        return f"Unlike({self.point!r}, {self.what!r}, {self.where!r})"
 
 
 class Stopped(Answer):
@@ -78,12 +68,7 @@ class Stopped(Answer):
 
     def __init__(self, which, answer):
         self.which = copied(which)
-        self._answer = copied(answer)
-
-    @property
-    def answer(self):
-        """The Fails or the Crossed at which it stopped."""
-        return copied(self._answer)
+        self.answer = copied(answer)
 
     @property
     def is_yes(self):
@@ -92,13 +77,13 @@ class Stopped(Answer):
 
     def again(self):
         """An equal answer that shares no list and no dict with this one."""
-        return Stopped(self.which, self._answer)
+        return Stopped(self.which, self.answer)
 
     def __eq__(self, other):
-        return isinstance(other, Stopped) and self.which == other.which and self._answer == other._answer
+        return isinstance(other, Stopped) and self.which == other.which and self.answer == other.answer
 
     def __repr__(self):
-        return f"Stopped({self.which!r}, {self._answer!r})"
+        return f"Stopped({self.which!r}, {self.answer!r})"
 
 
 def alike(one, other):

@@ -37,13 +37,8 @@ class Bent(Answer):
 
     def __init__(self, axis, point, bit):
         self.axis = copied(axis)
-        self._point = copied(point)
+        self.point = copied(point)
         self.bit = copied(bit)
-
-    @property
-    def point(self):
-        """The point, a dict."""
-        return copied(self._point)
 
     @property
     def is_yes(self):
@@ -52,14 +47,14 @@ class Bent(Answer):
 
     def again(self):
         """An equal answer that shares no list and no dict with this one."""
-        return Bent(self.axis, self._point, self.bit)
+        return Bent(self.axis, self.point, self.bit)
 
     def __eq__(self, other):
         return (isinstance(other, Bent) and self.axis == other.axis
-                and self._point == other._point and self.bit == other.bit)
+                and self.point == other.point and self.bit == other.bit)
 
     def __repr__(self):
-        return f"Bent({self.axis!r}, {self._point!r}, {self.bit!r})"
+        return f"Bent({self.axis!r}, {self.point!r}, {self.bit!r})"
 
 
 class View(Answer):
@@ -113,12 +108,7 @@ class NoNest(Answer):
     def __init__(self, one, other, points):
         self.one = copied(one)
         self.other = copied(other)
-        self._points = copied(points)
-
-    @property
-    def points(self):
-        """The list of points."""
-        return copied(self._points)
+        self.points = copied(points)
 
     @property
     def is_yes(self):
@@ -127,14 +117,14 @@ class NoNest(Answer):
 
     def again(self):
         """An equal answer that shares no list and no dict with this one."""
-        return NoNest(self.one, self.other, self._points)
+        return NoNest(self.one, self.other, self.points)
 
     def __eq__(self, other):
         return (isinstance(other, NoNest) and self.one == other.one
-                and self.other == other.other and self._points == other._points)
+                and self.other == other.other and self.points == other.points)
 
     def __repr__(self):
-        return f"NoNest({self.one!r}, {self.other!r}, {self._points!r})"
+        return f"NoNest({self.one!r}, {self.other!r}, {self.points!r})"
 
 
 class Nest(Answer):
@@ -182,12 +172,7 @@ class OtherSize(Answer):
     """At a point the array and the input have other numbers of cells."""
 
     def __init__(self, point):
-        self._point = copied(point)
-
-    @property
-    def point(self):
-        """The point, a dict."""
-        return copied(self._point)
+        self.point = copied(point)
 
     @property
     def is_yes(self):
@@ -196,27 +181,22 @@ class OtherSize(Answer):
 
     def again(self):
         """An equal answer that shares no list and no dict with this one."""
-        return OtherSize(self._point)
+        return OtherSize(self.point)
 
     def __eq__(self, other):
-        return isinstance(other, OtherSize) and self._point == other._point
+        return isinstance(other, OtherSize) and self.point == other.point
 
     def __repr__(self):
-        return f"OtherSize({self._point!r})"
+        return f"OtherSize({self.point!r})"
 
 
 class Overwritten(Answer):
     """At a point a leaf reads, at the cell 2 ** bit, or 0 if bit is None, a cell that may be overwritten before."""
 
     def __init__(self, point, leaf, bit):
-        self._point = copied(point)
+        self.point = copied(point)
         self.leaf = copied(leaf)
         self.bit = copied(bit)
-
-    @property
-    def point(self):
-        """The point, a dict."""
-        return copied(self._point)
 
     @property
     def is_yes(self):
@@ -225,14 +205,14 @@ class Overwritten(Answer):
 
     def again(self):
         """An equal answer that shares no list and no dict with this one."""
-        return Overwritten(self._point, self.leaf, self.bit)
+        return Overwritten(self.point, self.leaf, self.bit)
 
     def __eq__(self, other):
-        return (isinstance(other, Overwritten) and self._point == other._point
+        return (isinstance(other, Overwritten) and self.point == other.point
                 and self.leaf == other.leaf and self.bit == other.bit)
 
     def __repr__(self):
-        return f"Overwritten({self._point!r}, {self.leaf!r}, {self.bit!r})"
+        return f"Overwritten({self.point!r}, {self.leaf!r}, {self.bit!r})"
 
 
 class InPlace(Answer):

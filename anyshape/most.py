@@ -19,12 +19,7 @@ class Covered(Answer):
 
     def __init__(self, counts, reason):
         self.counts = copied(counts)
-        self._reason = copied(reason)
-
-    @property
-    def reason(self):
-        """The why that the power divides the product."""
-        return copied(self._reason)
+        self.reason = copied(reason)
 
     @property
     def is_yes(self):
@@ -33,25 +28,20 @@ class Covered(Answer):
 
     def again(self):
         """An equal answer that shares no list and no dict with this one."""
-        return Covered(self.counts, self._reason)
+        return Covered(self.counts, self.reason)
 
     def __eq__(self, other):
-        return isinstance(other, Covered) and self.counts == other.counts and self._reason == other._reason
+        return isinstance(other, Covered) and self.counts == other.counts and self.reason == other.reason
 
     def __repr__(self):
-        return f"Covered({self.counts!r}, {self._reason!r})"
+        return f"Covered({self.counts!r}, {self.reason!r})"
 
 
 class Above(Answer):
     """At a point the size is greater than each of the others."""
 
     def __init__(self, point):
-        self._point = copied(point)
-
-    @property
-    def point(self):
-        """The point, a dict."""
-        return copied(self._point)
+        self.point = copied(point)
 
     @property
     def is_yes(self):
@@ -60,25 +50,20 @@ class Above(Answer):
 
     def again(self):
         """An equal answer that shares no list and no dict with this one."""
-        return Above(self._point)
+        return Above(self.point)
 
     def __eq__(self, other):
-        return isinstance(other, Above) and self._point == other._point
+        return isinstance(other, Above) and self.point == other.point
 
     def __repr__(self):
-        return f"Above({self._point!r})"
+        return f"Above({self.point!r})"
 
 
 class NeverGreater(Answer):
     """Each array of the first program is covered by the arrays of the second one."""
 
     def __init__(self, covers):
-        self._covers = copied(covers)
-
-    @property
-    def covers(self):
-        """The tuple with the Covered for each array of the first program."""
-        return copied(self._covers)
+        self.covers = copied(covers)
 
     @property
     def is_yes(self):
@@ -87,13 +72,13 @@ class NeverGreater(Answer):
 
     def again(self):
         """An equal answer that shares no list and no dict with this one."""
-        return NeverGreater(self._covers)
+        return NeverGreater(self.covers)
 
     def __eq__(self, other):
-        return isinstance(other, NeverGreater) and self._covers == other._covers
+        return isinstance(other, NeverGreater) and self.covers == other.covers
 
     def __repr__(self):
-        return f"NeverGreater({self._covers!r})"
+        return f"NeverGreater({self.covers!r})"
 
 
 class Greater(Answer):
@@ -101,12 +86,7 @@ class Greater(Answer):
 
     def __init__(self, name, point):
         self.name = copied(name)
-        self._point = copied(point)
-
-    @property
-    def point(self):
-        """The point, a dict."""
-        return copied(self._point)
+        self.point = copied(point)
 
     @property
     def is_yes(self):
@@ -115,13 +95,13 @@ class Greater(Answer):
 
     def again(self):
         """An equal answer that shares no list and no dict with this one."""
-        return Greater(self.name, self._point)
+        return Greater(self.name, self.point)
 
     def __eq__(self, other):
-        return isinstance(other, Greater) and self.name == other.name and self._point == other._point
+        return isinstance(other, Greater) and self.name == other.name and self.point == other.point
 
     def __repr__(self):
-        return f"Greater({self.name!r}, {self._point!r})"
+        return f"Greater({self.name!r}, {self.point!r})"
 
 
 def cover(size, others, facts=()):

@@ -46,12 +46,7 @@ class Fails(Answer):
     def __init__(self, line, axis, points):
         self.line = copied(line)
         self.axis = copied(axis)
-        self._points = copied(points)
-
-    @property
-    def points(self):
-        """The list of points."""
-        return copied(self._points)
+        self.points = copied(points)
 
     @property
     def is_yes(self):
@@ -60,14 +55,14 @@ class Fails(Answer):
 
     def again(self):
         """An equal answer that shares no list and no dict with this one."""
-        return Fails(self.line, self.axis, self._points)
+        return Fails(self.line, self.axis, self.points)
 
     def __eq__(self, other):
         return (isinstance(other, Fails) and self.line == other.line
-                and self.axis == other.axis and self._points == other._points)
+                and self.axis == other.axis and self.points == other.points)
 
     def __repr__(self):
-        return f"Fails({self.line!r}, {self.axis!r}, {self._points!r})"
+        return f"Fails({self.line!r}, {self.axis!r}, {self.points!r})"
 
 
 def copied(value):
