@@ -217,7 +217,7 @@ class TestRight(unittest.TestCase):
         given = facts("n | m", "m | k")
         question = ("follows", given, fact("n | k"))
         answer = self.check(question, [("yes", (2, (2, 2), {"n": 0}))], [("no", (1, (1, 1), {})), ("yes", (1, (1, 0), {})), ("yes", [1, (1, 1), {}]), ("yes", [{"n": 1}]), ("no", [{"n": 1, "m": 1, "k": 1}]), ("no", []),
-                                                                        ["yes", (1, (1, 1), {})], ("yes", (1, (1, 1), {}), 0), ("Yes", (1, (1, 1), {})), (True, (1, (1, 1), {})), (1, (1, (1, 1), {}))])
+                                                                        ["yes", (1, (1, 1), {})], ("yes", (1, (1, 1), {}), 0), ("Yes", (1, (1, 1), {})), (True, (1, (1, 1), {})), (1, (1, (1, 1), {})), (Box(), (1, (1, 1), {}))])
         self.assertEqual(answer, ("yes", (1, (1, 1), {})))
         question = ("follows", given, fact("k | n"))
         self.check(question, [("no", [{"k": 3, "n": 0, "zz": 5}]), ("no", [{}, {"k": 1}, {"m": 1, "k": 1}]), ("no", ({"k": 1},))], [("maybe", [{"k": 1}]), ("", [{"k": 1}]), (None, [{"k": 1}]), (False, [{"k": 1}]), (Box(), [{"k": 1}]), ("no", [{}]), ("no", []), ("no", [{"m": 1}]), ("no", [{"k": 1}, {"n": 1}]),

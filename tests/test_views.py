@@ -115,6 +115,7 @@ class TestViews(unittest.TestCase):
             made = Maker(seed).program(5, facts=2)
             view = view_of(made)
             seen[view.__class__] = seen.get(view.__class__, 0) + 1
+            self.assertEqual(view_of(made), view)
             if isinstance(view, View):
                 self.assertTrue(is_view(made, view))
                 for numbers in kept_numbers(made, 4):
