@@ -27,10 +27,6 @@ class Alike(Answer):
         """Whether the answer is a yes."""
         return True
 
-    def again(self):
-        """An equal answer that shares no list and no dict with this one."""
-        return Alike(self.reasons)
-
     def __eq__(self, other):
         return isinstance(other, Alike) and self.reasons == other.reasons
 
@@ -51,10 +47,6 @@ class Unlike(Answer):
         """Whether the answer is a yes."""
         return False
 
-    def again(self):
-        """An equal answer that shares no list and no dict with this one."""
-        return Unlike(self.point, self.what, self.where)
-
     def __eq__(self, other):
         return (isinstance(other, Unlike) and self.point == other.point
                 and self.what == other.what and self.where == other.where)
@@ -74,10 +66,6 @@ class Stopped(Answer):
     def is_yes(self):
         """Whether the answer is a yes."""
         return False
-
-    def again(self):
-        """An equal answer that shares no list and no dict with this one."""
-        return Stopped(self.which, self.answer)
 
     def __eq__(self, other):
         return isinstance(other, Stopped) and self.which == other.which and self.answer == other.answer

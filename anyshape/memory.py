@@ -45,10 +45,6 @@ class Bent(Answer):
         """Whether the answer is a yes."""
         return False
 
-    def again(self):
-        """An equal answer that shares no list and no dict with this one."""
-        return Bent(self.axis, self.point, self.bit)
-
     def __eq__(self, other):
         return (isinstance(other, Bent) and self.axis == other.axis
                 and self.point == other.point and self.bit == other.bit)
@@ -69,10 +65,6 @@ class View(Answer):
     def is_yes(self):
         """Whether the answer is a yes."""
         return True
-
-    def again(self):
-        """An equal answer that shares no list and no dict with this one."""
-        return View(self.source, self.steps, self.start)
 
     def number(self, position, numbers):
         """The number of the cell of the input that is read at a position, at numbers."""
@@ -115,10 +107,6 @@ class NoNest(Answer):
         """Whether the answer is a yes."""
         return False
 
-    def again(self):
-        """An equal answer that shares no list and no dict with this one."""
-        return NoNest(self.one, self.other, self.points)
-
     def __eq__(self, other):
         return (isinstance(other, NoNest) and self.one == other.one
                 and self.other == other.other and self.points == other.points)
@@ -138,10 +126,6 @@ class Nest(Answer):
     def is_yes(self):
         """Whether the answer is a yes."""
         return True
-
-    def again(self):
-        """An equal answer that shares no list and no dict with this one."""
-        return Nest(self.loops, self.starts)
 
     def walk(self, numbers):
         """For each cell, by flat index, the tuple of the numbers that the leaves read at numbers."""
@@ -179,10 +163,6 @@ class OtherSize(Answer):
         """Whether the answer is a yes."""
         return False
 
-    def again(self):
-        """An equal answer that shares no list and no dict with this one."""
-        return OtherSize(self.point)
-
     def __eq__(self, other):
         return isinstance(other, OtherSize) and self.point == other.point
 
@@ -202,10 +182,6 @@ class Overwritten(Answer):
     def is_yes(self):
         """Whether the answer is a yes."""
         return False
-
-    def again(self):
-        """An equal answer that shares no list and no dict with this one."""
-        return Overwritten(self.point, self.leaf, self.bit)
 
     def __eq__(self, other):
         return (isinstance(other, Overwritten) and self.point == other.point

@@ -48,10 +48,6 @@ class Above(Answer):
         """Whether the answer is a yes."""
         return False
 
-    def again(self):
-        """An equal answer that shares no list and no dict with this one."""
-        return Above(self.point)
-
     def __eq__(self, other):
         return isinstance(other, Above) and self.point == other.point
 
@@ -69,10 +65,6 @@ class NeverGreater(Answer):
     def is_yes(self):
         """Whether the answer is a yes."""
         return True
-
-    def again(self):
-        """An equal answer that shares no list and no dict with this one."""
-        return NeverGreater(self.covers)
 
     def __eq__(self, other):
         return isinstance(other, NeverGreater) and self.covers == other.covers
@@ -92,10 +84,6 @@ class Greater(Answer):
     def is_yes(self):
         """Whether the answer is a yes."""
         return False
-
-    def again(self):
-        """An equal answer that shares no list and no dict with this one."""
-        return Greater(self.name, self.point)
 
     def __eq__(self, other):
         return isinstance(other, Greater) and self.name == other.name and self.point == other.point
